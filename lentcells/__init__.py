@@ -1,0 +1,1 @@
+"""Lentcells: functions that lend arrays to one another, each checked by itself."""

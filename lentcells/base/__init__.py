@@ -1,0 +1,1 @@
+"""Integers, names and frames."""

@@ -1,0 +1,1 @@
+"""Claims: their form, and terms put in the place of their names."""

@@ -1,0 +1,1 @@
+"""Differences, questions and the trees that show that questions follow."""

@@ -1,0 +1,1 @@
+"""Situations: what claims mean in them."""
