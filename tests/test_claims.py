@@ -70,7 +70,8 @@ class ClaimTest(unittest.TestCase):
                    every(LOW, BODY, ["k"]), every(LOW, BODY, "k"), every(LOW, BODY, ("k", "i")),
                    every(LOW, BODY, ("k", "a")), every(LOW, BODY, ("k", "n")), every(LOW, BODY, ("k", "x")),
                    every(LOW, BODY, ("k", "K")), every(LOW, BODY, ("k", "")), every(LOW, BODY, ("k", 1)),
-                   every(LOW, BODY, ("p",)), every(("and", ()), BODY, ("p",)))
+                   every(LOW, BODY, ("p",)), every(("and", ()), BODY, ("p",)),
+                   every(("and", ()), ("val", "<", ("x", 0), ("", 0)), ()), ("any", *UPTO[1:]), ("every", *UPTO[1:]))
 
     def test_guards(self):
         self.wrong(every(LESS, BODY), every(("pos", "<=", ("i", 0), ("j", 0)), BODY),
@@ -80,14 +81,16 @@ class ClaimTest(unittest.TestCase):
                    every(("pos", "<=", ("p", 0), ("q", 1)), BODY, ("p", "q", )), every(("not", LOW), BODY),
                    every(("and", (LOW, ("not", LOW))), BODY), every(("or", (("val", "<=", ("x", 0), ("x", 0)),)), BODY),
                    every(UPTO, BODY), every(("and", (UPTO,)), BODY), every(("and", [LOW]), BODY), every(None, BODY),
-                   every(("pos", "<=", ("k", 0), ("p", 0)), BODY), every((), BODY))
+                   every(("pos", "<=", ("k", 0), ("p", 0)), BODY), every((), BODY), every(("xor", (LOW,)), BODY),
+                   every(("and", (LOW,), (LOW,)), BODY), every(("and",), BODY), every(("not", (LOW,)), BODY))
 
     def test_bodies(self):
         self.wrong(every(LOW, LOW), every(LOW, LESS), every(LOW, UPTO), every(LOW, ("not", UPTO)),
                    every(LOW, ("or", (BODY, UPTO))), every(LOW, ("val", "==", ("a", "k", 1, 0), ("x", 0))),
                    every(LOW, ("not", ("val", "==", ("x", 0), ("a", "k", -1, 0)))), every(LOW, None),
                    every(LOW, ("val", "==", ("k", 0), ("x", 0))), every(LOW, ("and", [BODY])), every(LOW, ()),
-                   every(LOW, ("val", "==", ("a", "p", 0, 0), ("x", 0))), ("all", ("k",), LOW),
+                   every(LOW, ("val", "==", ("a", "p", 0, 0), ("x", 0))), every(LOW, ("not", BODY, BODY)),
+                   every(LOW, ("not",)), every(LOW, ("xor", (BODY,))), every(LOW, ("or", (BODY,), ())), ("all", ("k",), LOW),
                    ("all", ("k",), LOW, BODY, BODY))
 
     def test_depth(self):
@@ -98,6 +101,11 @@ class ClaimTest(unittest.TestCase):
             guard, body = ("and", (guard,)), ("not", body)
         self.right(every(guard, BODY), every(LOW, body), every(guard, body))
         self.wrong(every(("or", (guard,)), BODY), every(LOW, ("not", body)), ("not", every(guard, BODY)))
+        guard, body = LOW, BODY
+        for _ in range(10):
+            guard, body = ("or", (LOW, guard)), ("and", (body, BODY))
+        self.right(every(guard, body))
+        self.wrong(every(LOW, ("or", (body,))), every(("and", (guard,)), BODY))
         empty = ("and", ())
         for _ in range(11):
             empty = ("not", empty)
@@ -176,7 +184,7 @@ class ReplacedTest(unittest.TestCase):
         self.assertEqual(UPTO, replaced(FRAME, UPTO, {}))
 
     def test_wrong_terms(self):
-        for terms in ({"k": ("i", 0)}, {"n": ("i", 0)}, {"a": ("i", 0)}, {"i": ("x", 0)}, {"i": ("a", "i", 0, 0)},
+        for terms in ({"k": ("", 0)}, {"n": ("", 0)}, {"a": ("", 0)}, {"k": ("i", 0)}, {"n": ("i", 0)}, {"a": ("i", 0)}, {"i": ("x", 0)}, {"i": ("a", "i", 0, 0)},
                       {"x": ("i", 0)}, {"x": ("a", "x", 0, 0)}, {"i": ("k", 0)}, {"i": ("j", True)}, {"i": ["j", 0]},
                       {"i": ("j", LONG)}, {"x": ("a", "i", LONG, 0)}, {"": ("i", 0)}, {1: ("i", 0)}, {"i": None},
                       {("i",): ("i", 0)}, [("i", ("j", 0))], None, (), "i", FRAME):
@@ -344,6 +352,8 @@ class UsedTest(unittest.TestCase):
         self.assertEqual(every(("and", (("pos", "<=", ("i", 1), ("k", 0)), ("pos", "<=", ("k", 0), ("n", -1)))),
                                ("val", "<", ("a", "k", 0, 2), ("a", "i", 3, 0))),
                          all_between(FRAME, ("i", 1), ("n", -1), "<", ("a", "k", 0, 2), ("a", "i", 3, 0)))
+        seven = Frame((("a", "n"),), tuple("k" * many for many in range(1, 5)), tuple("k" * many for many in range(5, 8)))
+        self.assertEqual(("kkkkkkkk",), all_between(seven, ("", 0), ("", 0), "<", ("", 0), ("", 0))[1])
         taken = FRAME.with_names(positions=("k",), values=("kk",))
         made = all_between(taken, ("k", 0), ("k", 1), "==", ("a", "k", 5, 0), ("a", "kkk", 0, 0))
         self.assertEqual(("kkk",), made[1])

@@ -89,6 +89,11 @@ class TreeTest(unittest.TestCase):
         self.follows((("and", apart),), NO, ("part", 1, 0, 1), ("part", 1, 1, 2), ("ring", ((3, 0), (4, 0))))
         question = self.follows((), ("or", (("not", apart[0]), ("not", apart[1]))), ("part", 1, 0, 1), ("part", 2, 0, 2),
                                 ("part", 1, 1, 3), ("part", 4, 0, 4), ("ring", ((5, 0), (3, 0))))
+        # A node that names itself, and one that none names.
+        closed = (("ring", ((0, 0),)),)
+        twice = Question(FRAME, (position("<", I, I), ("and", apart)), NO)
+        self.trees(twice, (("ring", ((1, 0),)),))
+        self.no_trees(twice, (("ring", ((1, 0),)), ("part", 2, 0, 1)), (("ring", ((1, 0),)), ("ring", ((1, 0),))), closed)
         self.no_trees(question, (("part", 1, 0, 1), ("part", 2, 1, 2), ("part", 1, 1, 3), ("part", 4, 0, 4),
                                  ("ring", ((5, 0), (3, 0)))))
         question = Question(FRAME, (("and", apart), ("not", ("and", apart)), ("or", apart), YES, apart[0]), NO)
@@ -119,7 +124,8 @@ class TreeTest(unittest.TestCase):
         question = Question(FRAME, (("or", (low, high)),), NO)
         ring = ("ring", ((3, 0),))
         self.trees(question, (("cases", 1, (1, 2)), ring, ring), (("cases", 1, (2, 1)), ring, ring))
-        self.no_trees(question, (("cases", 1, (1, 1)), ring), (("cases", 1, (1,)), ring), (("cases", 1, (1, 2)), ring),
+        self.no_trees(question, (("ring", ((0, 0),)), ("part", 1, 0, 1)), (("cases", 1, (1, 2)), ring, ring, ("cases", 1, (3, 4))),
+                      (("cases", 1, (1, 1)), ring), (("cases", 1, (1,)), ring), (("cases", 1, (1, 2)), ring),
                       (("cases", 1, (1, 2, 3)), ring, ring, ring), (("cases", 1, (0, 1)), ring),
                       (("cases", 1, (1, 3)), ring, ring, ring), (("cases", 1, 1), ring), (("cases", 1, (1, "2")), ring, ring),
                       (("cases", 1, (1, 2)), ring, ring, ring), (("cases", 1, (1, -1)), ring), (ring, ("cases", 1, (0, 2)), ring))
@@ -488,6 +494,8 @@ class ClosingTest(unittest.TestCase):
         self.assertTrue(closing == closing_by(Question(FRAME, NEXT.claims, NEXT.goal), STEPS[:3]))
         self.assertFalse(closing != closing_by(NEXT, STEPS[:3]))
         other = closing_by(NEXT, (("new", 3, ("r",)), *STEPS[1:3]))
+        self.assertFalse(Closing(NEXT) == Closing(BROKEN))
+        self.assertTrue(Closing(NEXT) != Closing(BROKEN))
         for value in (other, closing_by(NEXT, STEPS[:2]), Closing(BROKEN), str(closing), None, 3, (), [], NEXT, FRAME):
             self.assertFalse(closing == value)
             self.assertTrue(closing != value)

@@ -10,8 +10,8 @@ def put_short(term, terms):
     return raised(terms[term[0]], term[1]) if term[0] in terms else term
 
 
-def put_value(term, arrays, terms):
-    """A value term, with other arrays and with terms in the place of names."""
+def put_term(term, arrays, terms):
+    """A term, with other arrays and with terms in the place of names."""
     if len(term) == 2:
         return put_short(term, terms)
     word, shift = put_short(term[1:3], terms)
@@ -40,7 +40,7 @@ def put_in(claim, target, arrays, terms):
     """The claim for the frame `target`, with other arrays and with terms in the place of names."""
     word = claim[0]
     if word in ATOMS:
-        return (word, claim[1], *put_in_atom(claim, arrays, terms))
+        return (word, claim[1], put_term(claim[2], arrays, terms), put_term(claim[3], arrays, terms))
     if word == "not":
         return (word, put_in(claim[1], target, arrays, terms))
     if word in ("and", "or"):
@@ -48,13 +48,6 @@ def put_in(claim, target, arrays, terms):
     own = own_names_for(target, claim[1])
     more = {**terms, **{old: (new, 0) for old, new in zip(claim[1], own)}}
     return (word, own, put_in(claim[2], target, arrays, more), put_in(claim[3], target, arrays, more))
-
-
-def put_in_atom(atom, arrays, terms):
-    """The two terms of an atom, with other arrays and with terms in the place of names."""
-    if atom[0] == "pos":
-        return [put_short(term, terms) for term in atom[2:]]
-    return [put_value(term, arrays, terms) for term in atom[2:]]
 
 
 def opened_all(frame, claim, terms):

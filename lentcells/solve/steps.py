@@ -141,7 +141,7 @@ def said_at(facts, pair):
 
 def ring_step(frame, facts, made, step):
     """Differences that can't all be true, so the way ends here."""
-    if not isinstance(step[1], tuple) or len(step[1]) == 0:
+    if not isinstance(step[1], tuple):
         return None
     said = [said_at(facts, pair) for pair in step[1]]
     if not all([pair is not None for pair in said]) or len(set([kind for kind, difference in said])) != 1:
@@ -178,8 +178,6 @@ def names_made(step):
 
 def node_of(step, nexts):
     """The node of a step and the numbers of its next ones."""
-    if step[0] == "ring":
-        return step
     return (*step, nexts) if step[0] in FORKS else (*step, *nexts)
 
 

@@ -184,7 +184,7 @@ class Closing:
     def twin(self):
         """An equal one that goes on by itself."""
         made = Closing(self._question)
-        made._take_all(self._steps)
+        made._take_all(list(self._steps))
         return made
 
     def __bool__(self):
