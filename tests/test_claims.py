@@ -62,7 +62,8 @@ class ClaimTest(unittest.TestCase):
                    every(("pos", "==", ("i", 3), ("k", 0)), ("or", (BODY, ("and", ())))),
                    every(("pos", "<=", ("k", 0), ("k", 0)), BODY), every(LOW, ("val", "<", ("x", 0), ("", 3))),
                    every(LOW, ("val", "<", ("a", "i", 5, 0), ("a", "k", 0, 7))),
-                   every(("pos", "==", ("p", 0), ("q", 0)), BODY[:2] + (("a", "p", 0, 0), ("a", "q", 0, 0)), ("p", "q")),
+                   every(("pos", "==", ("p", 0), ("q", 0)), BODY[:2] + (("a", "p", 0, 0), ("a", "q", 0, 0)),
+                         ("p", "q")),
                    every(LOW, BODY, ("k", "q")), ("and", (every(LOW, BODY), every(LOW, BODY))))
 
     def test_own_names(self):
@@ -90,7 +91,8 @@ class ClaimTest(unittest.TestCase):
                    every(LOW, ("not", ("val", "==", ("x", 0), ("a", "k", -1, 0)))), every(LOW, None),
                    every(LOW, ("val", "==", ("k", 0), ("x", 0))), every(LOW, ("and", [BODY])), every(LOW, ()),
                    every(LOW, ("val", "==", ("a", "p", 0, 0), ("x", 0))), every(LOW, ("not", BODY, BODY)),
-                   every(LOW, ("not",)), every(LOW, ("xor", (BODY,))), every(LOW, ("or", (BODY,), ())), ("all", ("k",), LOW),
+                   every(LOW, ("not",)), every(LOW, ("xor", (BODY,))), every(LOW, ("or", (BODY,), ())),
+                   ("all", ("k",), LOW),
                    ("all", ("k",), LOW, BODY, BODY))
 
     def test_depth(self):
@@ -170,7 +172,8 @@ class ReplacedTest(unittest.TestCase):
 
     def test_all_at_once(self):
         claim = ("and", (("pos", "<=", ("i", 1), ("j", 2)), ("val", "==", ("a", "j", 0, 0), ("a", "i", 0, 0))))
-        self.assertEqual(("and", (("pos", "<=", ("j", 1), ("i", 2)), ("val", "==", ("a", "i", 0, 0), ("a", "j", 0, 0)))),
+        self.assertEqual(("and", (("pos", "<=", ("j", 1), ("i", 2)), ("val", "==", ("a", "i", 0, 0),
+                                                                      ("a", "j", 0, 0)))),
                          replaced(FRAME, claim, {"i": ("j", 0), "j": ("i", 0)}))
         self.assertEqual(("val", "<=", ("a", "j", 1, 0), ("a", "i", 0, 1)),
                          replaced(FRAME, SMALL, {"i": ("j", 0), "x": ("a", "i", 0, 0)}))
@@ -184,7 +187,8 @@ class ReplacedTest(unittest.TestCase):
         self.assertEqual(UPTO, replaced(FRAME, UPTO, {}))
 
     def test_wrong_terms(self):
-        for terms in ({"k": ("", 0)}, {"n": ("", 0)}, {"a": ("", 0)}, {"k": ("i", 0)}, {"n": ("i", 0)}, {"a": ("i", 0)}, {"i": ("x", 0)}, {"i": ("a", "i", 0, 0)},
+        for terms in ({"k": ("", 0)}, {"n": ("", 0)}, {"a": ("", 0)}, {"k": ("i", 0)}, {"n": ("i", 0)}, {"a": ("i", 0)},
+                      {"i": ("x", 0)}, {"i": ("a", "i", 0, 0)},
                       {"x": ("i", 0)}, {"x": ("a", "x", 0, 0)}, {"i": ("k", 0)}, {"i": ("j", True)}, {"i": ["j", 0]},
                       {"i": ("j", LONG)}, {"x": ("a", "i", LONG, 0)}, {"": ("i", 0)}, {1: ("i", 0)}, {"i": None},
                       {("i",): ("i", 0)}, [("i", ("j", 0))], None, (), "i", FRAME):
@@ -313,14 +317,16 @@ class UsedTest(unittest.TestCase):
     """used_at, inside_claim and all_between."""
 
     def test_used_at(self):
-        self.assertEqual(("or", (("not", ("and", (("pos", "<=", ("", 0), ("j", -1)), ("pos", "<=", ("j", -1), ("i", 0))))),
+        self.assertEqual(("or", (("not", ("and", (("pos", "<=", ("", 0), ("j", -1)),
+                                                  ("pos", "<=", ("j", -1), ("i", 0))))),
                                  ("val", "<=", ("a", "j", -1, 0), ("x", 0)))), used_at(FRAME, UPTO, (("j", -1),)))
         made = used_at(FRAME, PAIR, (("", 3), ("n", -1)))
         self.assertEqual(("pos", "<=", ("", 3), ("n", -1)), made[1][0][1][1][1])
         self.assertEqual(("val", "<=", ("a", "", 3, 0), ("a", "n", -1, 1)), made[1][1])
 
     def test_used_at_wrong(self):
-        for claim, terms in ((LESS, (("i", 0),)), (("not", UPTO), (("i", 0),)), (UPTO, ()), (UPTO, (("i", 0), ("j", 0))),
+        for claim, terms in ((LESS, (("i", 0),)), (("not", UPTO), (("i", 0),)), (UPTO, ()),
+                             (UPTO, (("i", 0), ("j", 0))),
                              (PAIR, (("i", 0),)), (UPTO, [("i", 0)]), (UPTO, (["i", 0],)), (UPTO, (("k", 0),)),
                              (UPTO, (("x", 0),)), (UPTO, (("i", True),)), (UPTO, (("i", LONG),)), (UPTO, None),
                              (UPTO, ("i", 0)), (UPTO, (None,)), (UPTO, (("a", "i", 0, 0),))):
@@ -352,7 +358,8 @@ class UsedTest(unittest.TestCase):
         self.assertEqual(every(("and", (("pos", "<=", ("i", 1), ("k", 0)), ("pos", "<=", ("k", 0), ("n", -1)))),
                                ("val", "<", ("a", "k", 0, 2), ("a", "i", 3, 0))),
                          all_between(FRAME, ("i", 1), ("n", -1), "<", ("a", "k", 0, 2), ("a", "i", 3, 0)))
-        seven = Frame((("a", "n"),), tuple("k" * many for many in range(1, 5)), tuple("k" * many for many in range(5, 8)))
+        seven = Frame((("a", "n"),), tuple("k" * many for many in range(1, 5)),
+                      tuple("k" * many for many in range(5, 8)))
         self.assertEqual(("kkkkkkkk",), all_between(seven, ("", 0), ("", 0), "<", ("", 0), ("", 0))[1])
         taken = FRAME.with_names(positions=("k",), values=("kk",))
         made = all_between(taken, ("k", 0), ("k", 1), "==", ("a", "k", 5, 0), ("a", "kkk", 0, 0))

@@ -17,7 +17,8 @@ NO_POINTS = (None, True, 0, "A", "a1", "abcdefghi", "*", "*0", "*01", "*1a", "**
 
 def random_differences(maker, points):
     """Up to ten differences of these points."""
-    return tuple((maker.choice(points), maker.choice(points), maker.randint(-3, 6)) for _ in range(maker.randint(0, 10)))
+    return tuple((maker.choice(points), maker.choice(points), maker.randint(-3, 6)) for _ in range(maker.randint(0,
+                                                                                                                 10)))
 
 
 def plain_bounds(differences, points):
@@ -56,7 +57,8 @@ class DifferencesTest(unittest.TestCase):
 
     def test_no_differences(self):
         for value in (None, [], [("i", "j", 0)], ("i", "j", 0), (["i", "j", 0],), (("i", "j"),), (("i", "j", 0, 0),),
-                      (("i", "j", True),), (("i", "j", None),), (("i", "j", LONG),), (("i", "j", -LONG),), ((),), (None,),
+                      (("i", "j", True),), (("i", "j", None),), (("i", "j", LONG),), (("i", "j", -LONG),), ((),),
+                      (None,),
                       {}, "ij", FRAME, deep_junk()):
             self.refused(value)
 
@@ -123,7 +125,8 @@ class RingTest(unittest.TestCase):
         for value in ((0, 1, 2), (1, 2, 0), (2, 0, 1), (0, 1, 2, 0, 1, 2), (3,), (3, 3), (2, 0, 4, 0, 1),
                       (0, 1, 3, 2), (3, 2, 0, 1)):
             self.assertIs(True, is_ring(differences, value), value)
-        for value in ((), (0,), (0, 1), (2, 1, 0), (0, 4), (4, 0), (0, 1, 2, 0), (5,), (-2,), (0, 1, -3), [0, 1, 2], None,
+        for value in ((), (0,), (0, 1), (2, 1, 0), (0, 4), (4, 0), (0, 1, 2, 0), (5,), (-2,), (0, 1, -3), [0, 1, 2],
+                      None,
                       3, (None,), ("3",), ((3,),), (3, None), (0, True, 2), (False, 1, 2), {3: 3}, (LONG,), FRAME):
             self.assertIs(False, is_ring(differences, value), value)
         self.assertIs(False, is_ring((), (0,)))

@@ -68,7 +68,8 @@ class ExamplesTest(unittest.TestCase):
             closing.use(1, (("q", 0),))])
         self.assertEqual(
             [7, 8, 10, ("not", ("pos", "<=", ("q", 0), ("i", 0))), (5, 6, 9, 11), "closing with 8 nodes, 4 open"],
-            [closing.cases(9), closing.cases(10), closing.ring(((11, 0), (6, 0))), closing.facts[11], closing.open_nodes,
+            [closing.cases(9), closing.cases(10), closing.ring(((11, 0), (6, 0))), closing.facts[11],
+             closing.open_nodes,
              str(closing)])
 
 

@@ -182,7 +182,8 @@ class MadeTest(unittest.TestCase):
     def test_with_names_wrong(self):
         for told in ({"arrays": (("a", "m"),)}, {"arrays": (("b", "i"),)}, {"arrays": [("b", "m")]},
                      {"positions": ("x",)}, {"positions": ["k"]}, {"positions": "k"}, {"values": ("n",)},
-                     {"values": None}, {"positions": ("k", "l", "m", "o", "p")}, {"positions": ("k",), "values": ("k",)}):
+                     {"values": None}, {"positions": ("k", "l", "m", "o", "p")},
+                     {"positions": ("k",), "values": ("k",)}):
             with self.assertRaises(InvalidFrame):
                 FRAME.with_names(**told)
         self.assertEqual("a:n | i j | x", str(FRAME))

@@ -128,9 +128,9 @@ class LanguageTest(unittest.TestCase):
                          if not isinstance(node, plain) and not (at == 0 and isinstance(node, ast.Expr)))
             self.none_of((path, node.lineno) for node in ast.walk(tree)
                          if isinstance(node, ast.stmt) and not isinstance(node, STATEMENTS))
+            self.none_of(path for node in ast.walk(tree) if isinstance(node, (ast.Div, ast.Await)))
             self.none_of((path, node.lineno) for node in ast.walk(tree)
-                         if isinstance(node, (ast.Yield, ast.YieldFrom, ast.Await, ast.Div, ast.Starred)) and
-                         isinstance(node, ast.Div))
+                         if isinstance(node, ast.Constant) and isinstance(node.value, (float, complex)))
 
     def test_l4_l5_definitions(self):
         for path, text, tree in self.files:

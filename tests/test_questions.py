@@ -4,7 +4,8 @@ import random
 import unittest
 
 from lentcells.base.frames import Frame
-from lentcells.errors import InvalidClaim, InvalidFrame, InvalidNumber, InvalidOperation, InvalidQuestion, InvalidSituation
+from lentcells.errors import (
+    InvalidClaim, InvalidFrame, InvalidNumber, InvalidOperation, InvalidQuestion, InvalidSituation)
 from lentcells.solve.questions import Question
 from lentcells.world.situations import Situation
 from samples import (
@@ -99,7 +100,8 @@ class MembersTest(unittest.TestCase):
         atom = ("val", "<", ("a", "i", -2, 9), ("a", "", 3, 0))
         self.assertEqual(([("", 3), ("i", -2)], (), 21), self.members((atom,), NO))
         self.assertEqual(([("", 3), ("i", -2)], (), 21), self.members((), ("not", atom)))
-        self.assertEqual(([("n", -1)], (), 9), self.members((("or", (("val", "<", ("a", "n", -1, 0), ("x", 0)),)),), NO))
+        self.assertEqual(([("n", -1)], (), 9), self.members((("or", (("val", "<", ("a", "n", -1, 0), ("x", 0)),)),),
+                                                            NO))
 
     def test_positive(self):
         self.assertEqual(([("i", 0)], (), 9), self.members((UPTO,), NO))
@@ -203,7 +205,8 @@ class BrokenTest(unittest.TestCase):
         many = Question(FRAME, (("pos", "<=", ("j", SIXTY), ("i", 0)),), ("pos", "<", ("i", -SIXTY), ("j", 0)))
         self.small_one(many, far.with_number("i", 5).with_number("j", 5 - SIXTY))
         empty = Frame((), (), ())
-        self.assertEqual(Situation(empty, {}, {}, {}), self.small_one(Question(empty, (), NO), Situation(empty, {}, {}, {})))
+        self.assertEqual(Situation(empty, {}, {}, {}), self.small_one(Question(empty, (), NO),
+                                                                      Situation(empty, {}, {}, {})))
 
     def test_random(self):
         broken = 0
@@ -211,7 +214,8 @@ class BrokenTest(unittest.TestCase):
         for seed, frame in enumerate(frames):
             maker = Maker(frame, random.Random(seed))
             for _ in range(400):
-                question = Question(frame, tuple(maker.claim() for _ in range(maker.random.randint(0, 2))), maker.claim())
+                question = Question(frame, tuple(maker.claim() for _ in range(maker.random.randint(0, 2))),
+                                    maker.claim())
                 situation = maker.situation(maker.random.choice((2, 9, 30)), maker.random.choice((3, 12, 40)))
                 laid = question.laid(situation)
                 self.assertEqual(len(question.fresh), len(question.new_numbers(situation)))

@@ -82,7 +82,8 @@ class MadeTest(unittest.TestCase):
 
     def test_integers(self):
         for number in (SIXTY, -SIXTY):
-            self.assertEqual(number, Situation(FRAME, {"a": (number,)}, {"i": number, "j": 0}, {"x": number}).cell("a", 0))
+            self.assertEqual(number, Situation(FRAME, {"a": (number,)}, {"i": number, "j": 0}, {"x": number}).cell("a",
+                                                                                                                   0))
         for number in (LONG, -LONG, 10 ** 99, True, False, None, "1", (1,), [1]):
             self.wrong({"a": (number,)}, {"i": 0, "j": 0}, {"x": 0})
             self.wrong({"a": ()}, {"i": 0, "j": number}, {"x": 0})
@@ -208,7 +209,8 @@ class HoldsTest(unittest.TestCase):
         self.assertEqual((-1,), EMPTY.failure(every(("and", ()), body)))
 
     def test_random_claims(self):
-        for seed, frame in enumerate((FRAME, WIDE, Frame((("a", "n"),), (), ()), Frame((("a", "n"), ("b", "m")), ("i",), ()))):
+        for seed, frame in enumerate((FRAME, WIDE, Frame((("a", "n"),), (), ()),
+                                      Frame((("a", "n"), ("b", "m")), ("i",), ()))):
             maker = Maker(frame, random.Random(seed))
             for _ in range(150):
                 claim, situation = maker.claim(), maker.situation()

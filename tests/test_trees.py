@@ -74,7 +74,8 @@ class TreeTest(unittest.TestCase):
         self.assertEqual(14, len(TREE) + 1)
 
     def test_junk(self):
-        self.no_trees(NEXT, *JUNK, deep_junk(), (deep_junk(),), ((),), (None,), (("ring",),), (("ring", ()),), (("part",),),
+        self.no_trees(NEXT, *JUNK, deep_junk(), (deep_junk(),), ((),), (None,), (("ring",),), (("ring", ()),),
+                      (("part",),),
                       (("new", 3, ("q",), 1),), (("none", 0, 1),), ((["ring"], ()),), ((1, 2),), (("ring", ((0, 0),)),))
         for question in (None, BROKEN.facts, str(NEXT), FRAME):
             with self.assertRaises(InvalidQuestion):
@@ -87,17 +88,20 @@ class TreeTest(unittest.TestCase):
     def test_part(self):
         apart = (position("<", I, J), position("<", J, I))
         self.follows((("and", apart),), NO, ("part", 1, 0, 1), ("part", 1, 1, 2), ("ring", ((3, 0), (4, 0))))
-        question = self.follows((), ("or", (("not", apart[0]), ("not", apart[1]))), ("part", 1, 0, 1), ("part", 2, 0, 2),
+        question = self.follows((), ("or", (("not", apart[0]), ("not", apart[1]))), ("part", 1, 0, 1),
+                                ("part", 2, 0, 2),
                                 ("part", 1, 1, 3), ("part", 4, 0, 4), ("ring", ((5, 0), (3, 0))))
         # A node that names itself, and one that none names.
         closed = (("ring", ((0, 0),)),)
         twice = Question(FRAME, (position("<", I, I), ("and", apart)), NO)
         self.trees(twice, (("ring", ((1, 0),)),))
-        self.no_trees(twice, (("ring", ((1, 0),)), ("part", 2, 0, 1)), (("ring", ((1, 0),)), ("ring", ((1, 0),))), closed)
+        self.no_trees(twice, (("ring", ((1, 0),)), ("part", 2, 0, 1)), (("ring", ((1, 0),)), ("ring", ((1, 0),))),
+                      closed)
         self.no_trees(question, (("part", 1, 0, 1), ("part", 2, 1, 2), ("part", 1, 1, 3), ("part", 4, 0, 4),
                                  ("ring", ((5, 0), (3, 0)))))
         question = Question(FRAME, (("and", apart), ("not", ("and", apart)), ("or", apart), YES, apart[0]), NO)
-        for fact, index in ((1, 2), (1, -1), (1, None), (1, True), (1, LONG), (2, 0), (3, 0), (4, 0), (5, 0), (6, 0), (7, 0),
+        for fact, index in ((1, 2), (1, -1), (1, None), (1, True), (1, LONG), (2, 0), (3, 0), (4, 0), (5, 0), (6, 0),
+                            (7, 0),
                             (-1, 0), ("1", 0), (None, 0), (1, (0,))):
             with self.assertRaises(InvalidOperation, msg=repr((fact, index))):
                 Closing(question).part(fact, index)
@@ -107,14 +111,16 @@ class TreeTest(unittest.TestCase):
         self.follows((("or", (low, high)),), NO, ("cases", 1, (1, 2)), ("ring", ((3, 0),)), ("ring", ((3, 0),)))
         self.follows((NO,), position("<=", I, J), ("cases", 1, ()))
         self.follows((("not", YES),), position("<=", I, J), ("cases", 1, ()))
-        self.follows((), ("and", (("not", low), ("not", high))), ("cases", 1, (1, 3)), ("part", 2, 0, 2), ("ring", ((3, 0),)),
+        self.follows((), ("and", (("not", low), ("not", high))), ("cases", 1, (1, 3)), ("part", 2, 0, 2),
+                     ("ring", ((3, 0),)),
                      ("part", 2, 0, 4), ("ring", ((3, 0),)))
         self.follows((position("<=", I, J), position("<=", J, I)), position("==", I, J), ("cases", 3, (1, 2)),
                      ("ring", ((4, 0), (2, 0))), ("ring", ((4, 0), (1, 0))))
         x, cell = ("x", 0), ("a", "i", 0, 0)
         self.follows((("val", "<=", x, cell), ("val", "<=", cell, x)), ("val", "==", x, cell), ("cases", 3, (1, 2)),
                      ("ring", ((4, 0), (2, 0))), ("ring", ((4, 0), (1, 0))))
-        question = Question(FRAME, (position("==", I, J), ("and", (low,)), ("not", ("or", (low,))), low, ("not", low), UPTO), NO)
+        question = Question(FRAME, (position("==", I, J), ("and", (low,)), ("not", ("or", (low,))), low, ("not", low),
+                                    UPTO), NO)
         for fact in (0, 1, 2, 3, 4, 5, 6, 7, 8, -1, None, True, "1", LONG):
             with self.assertRaises(InvalidOperation):
                 Closing(question).cases(fact)
@@ -124,11 +130,14 @@ class TreeTest(unittest.TestCase):
         question = Question(FRAME, (("or", (low, high)),), NO)
         ring = ("ring", ((3, 0),))
         self.trees(question, (("cases", 1, (1, 2)), ring, ring), (("cases", 1, (2, 1)), ring, ring))
-        self.no_trees(question, (("ring", ((0, 0),)), ("part", 1, 0, 1)), (("cases", 1, (1, 2)), ring, ring, ("cases", 1, (3, 4))),
+        self.no_trees(question, (("ring", ((0, 0),)), ("part", 1, 0, 1)),
+                      (("cases", 1, (1, 2)), ring, ring, ("cases", 1, (3, 4))),
                       (("cases", 1, (1, 1)), ring), (("cases", 1, (1,)), ring), (("cases", 1, (1, 2)), ring),
                       (("cases", 1, (1, 2, 3)), ring, ring, ring), (("cases", 1, (0, 1)), ring),
-                      (("cases", 1, (1, 3)), ring, ring, ring), (("cases", 1, 1), ring), (("cases", 1, (1, "2")), ring, ring),
-                      (("cases", 1, (1, 2)), ring, ring, ring), (("cases", 1, (1, -1)), ring), (ring, ("cases", 1, (0, 2)), ring))
+                      (("cases", 1, (1, 3)), ring, ring, ring), (("cases", 1, 1), ring),
+                      (("cases", 1, (1, "2")), ring, ring),
+                      (("cases", 1, (1, 2)), ring, ring, ring), (("cases", 1, (1, -1)), ring),
+                      (ring, ("cases", 1, (0, 2)), ring))
 
     def test_new(self):
         bounds = (("pos", "<=", I, ("k", 0)), ("pos", "<=", ("k", 0), ("i", -1)))
@@ -141,9 +150,11 @@ class TreeTest(unittest.TestCase):
         self.assertEqual(("not", ("val", "<=", ("a", "q", 0, 0), ("a", "p", 0, 0))), facts_at(question, (
             ("new", 1, ("q", "p"), 1), ("part", 2, 0, 2), ("same", "a", 4, 3), ("ring", ((3, 0), (5, 0)))), 1)[3])
         question = question.with_given(UPTO).with_given(("not", UPTO))
-        for fact, names in ((3, ("q",)), (3, ("q", "q")), (3, ("q", "i")), (3, ("q", "x")), (3, ("q", "a")), (3, ("q", "n")),
+        for fact, names in ((3, ("q",)), (3, ("q", "q")), (3, ("q", "i")), (3, ("q", "x")), (3, ("q", "a")),
+                            (3, ("q", "n")),
                             (3, ("q", "")), (3, ("q", "Q")), (3, ("q", "*1")), (3, ["q", "p"]), (3, "qp"), (3, None),
-                            (3, ("q", 1)), (3, ("q", ["p"])), (3, ("q", "p", "r")), (2, ("q", "p")), (1, ("q",)), (0, ("q",)),
+                            (3, ("q", 1)), (3, ("q", ["p"])), (3, ("q", "p", "r")), (2, ("q", "p")), (1, ("q",)),
+                            (0, ("q",)),
                             (2, ()), (4, ("q", "p")), (-1, ("q", "p")), (None, ("q", "p")), (3, ())):
             with self.assertRaises(InvalidOperation, msg=repr((fact, names))):
                 Closing(question).new(fact, names)
@@ -161,25 +172,32 @@ class TreeTest(unittest.TestCase):
         # A name that was made behind one case can be made again behind another one, but is no name there before.
         low = position("<", I, ("i", -1))
         twice = Question(FRAME, (("or", (("not", UPTO), ("not", UPTO))), low), NO)
-        tree = (("cases", 1, (1, 2)), ("new", 4, ("q",), 3), ("new", 4, ("q",), 4), ("ring", ((2, 0),)), ("ring", ((2, 0),)))
+        tree = (("cases", 1, (1, 2)), ("new", 4, ("q",), 3), ("new", 4, ("q",), 4), ("ring", ((2, 0),)),
+                ("ring", ((2, 0),)))
         self.trees(twice, tree)
         for terms, told in (((("q", 1),), True), ((("r", 0),), False)):
             question = twice.with_given(UPTO)
-            tree = (("cases", 1, (1, 2)), ("new", 5, ("q",), 3), ("ring", ((2, 0),)), ("at", 3, terms, 4), ("ring", ((2, 0),)))
+            tree = (("cases", 1, (1, 2)), ("new", 5, ("q",), 3), ("ring", ((2, 0),)), ("at", 3, terms, 4),
+                    ("ring", ((2, 0),)))
             self.assertIs(told, is_tree(question, tree))
-            tree = (("cases", 1, (1, 2)), ("new", 5, ("q",), 3), ("at", 3, terms, 4), ("ring", ((2, 0),)), ("ring", ((2, 0),)))
+            tree = (("cases", 1, (1, 2)), ("new", 5, ("q",), 3), ("at", 3, terms, 4), ("ring", ((2, 0),)),
+                    ("ring", ((2, 0),)))
             self.no_trees(question, tree)
 
     def test_at(self):
         guard = ("pos", "==", ("k", 0), I)
         every = ("all", ("k",), guard, ("val", "<", ("a", "k", 0, 0), ("a", "k", 0, 0)))
-        nodes = (("at", 1, (I,), 1), ("cases", 3, (2, 5)), ("cases", 4, (3, 4)), ("ring", ((5, 0),)), ("ring", ((5, 0),)),
+        nodes = (("at", 1, (I,), 1), ("cases", 3, (2, 5)), ("cases", 4, (3, 4)), ("ring", ((5, 0),)),
+                 ("ring", ((5, 0),)),
                  ("ring", ((4, 0),)))
         self.follows((every,), NO, *nodes)
         question = Question(FRAME, (every, ("not", UPTO)), UPTO)
-        for fact, terms in ((1, ()), (1, (I, I)), (1, [I]), (1, (["i", 0],)), (1, (Q,)), (1, (("x", 0),)), (1, (("k", 0),)),
-                            (1, (("i", True),)), (1, (("i", LONG),)), (1, None), (1, I), (1, (None,)), (0, (I,)), (2, (I,)),
-                            (3, (I,)), (4, (I,)), (-1, (I,)), (None, (I,)), (1, (("*1", 0),)), (1, (("a", "i", 0, 0),))):
+        for fact, terms in ((1, ()), (1, (I, I)), (1, [I]), (1, (["i", 0],)), (1, (Q,)), (1, (("x", 0),)),
+                            (1, (("k", 0),)),
+                            (1, (("i", True),)), (1, (("i", LONG),)), (1, None), (1, I), (1, (None,)), (0, (I,)),
+                            (2, (I,)),
+                            (3, (I,)), (4, (I,)), (-1, (I,)), (None, (I,)), (1, (("*1", 0),)),
+                            (1, (("a", "i", 0, 0),))):
             with self.assertRaises(InvalidOperation, msg=repr((fact, terms))):
                 Closing(question).use(fact, terms)
         closing = closing_by(question, (("use", 1, (("n", SIXTY),)), ("new", 3, ("q",)), ("use", 1, (("q", -2),))))
@@ -195,7 +213,8 @@ class TreeTest(unittest.TestCase):
 
     def test_apart(self):
         given = (("or", ()),)
-        self.follows(given, NO, ("apart", I, ("n", -3), (1, 2, 3)), ("cases", 1, ()), ("cases", 1, ()), ("cases", 1, ()))
+        self.follows(given, NO, ("apart", I, ("n", -3), (1, 2, 3)), ("cases", 1, ()), ("cases", 1, ()),
+                     ("cases", 1, ()))
         question = Question(FRAME, given, NO)
         closes = ("cases", 1, ())
         tree = (("apart", I, J, (3, 1, 2)), closes, closes, closes)
@@ -212,10 +231,12 @@ class TreeTest(unittest.TestCase):
         cell, other = ("a", "i", 1, 0), ("a", "j", -1, 0)
         given = (position("==", ("i", 1), ("j", -1)), ("val", "<", cell, other))
         question = self.follows(given, NO, ("same", "a", 1, 1), ("ring", ((2, 0), (4, 1))))
-        self.assertEqual(("val", "==", cell, other), facts_at(question, (("same", "a", 1, 1), ("ring", ((2, 0), (4, 1)))), 1)[4])
+        self.assertEqual(("val", "==", cell, other), facts_at(question,
+                                                              (("same", "a", 1, 1), ("ring", ((2, 0), (4, 1)))), 1)[4])
         question = Question(WIDE, (position("==", I, J), position("<=", I, J), ("not", position("==", I, J)),
                                    ("val", "==", ("x", 0), ("y", 0))), NO)
-        self.assertEqual(("val", "==", ("c", "i", 0, 0), ("c", "j", 0, 0)), closing_by(question, (("same", "c", 2),)).facts[-1])
+        self.assertEqual(("val", "==", ("c", "i", 0, 0), ("c", "j", 0, 0)),
+                         closing_by(question, (("same", "c", 2),)).facts[-1])
         for array, fact in (("d", 2), ("n", 2), ("i", 2), ("", 2), (None, 2), (["a"], 2), ("a", 3), ("a", 4), ("a", 5),
                             ("a", 0), ("a", 9), ("a", -5), ("a", True), ("a", None), (1, 2)):
             with self.assertRaises(InvalidOperation):
@@ -231,9 +252,12 @@ class TreeTest(unittest.TestCase):
                  position("<=", I, ("", -1)), position("<", I, ("", -1)), position("<", ("n", 0), I),
                  ("not", position("<", I, ZERO)), position("==", I, ZERO), ("val", "<", ("x", 0), ZERO))
         question = Question(WIDE, given, NO)
-        for array, fact, term in (("a", 2, ("m", 3)), ("b", 2, ("m", 3)), ("c", 3, I), ("a", 4, ("n", -1)), ("c", 4, ("n", -1))):
-            self.assertEqual(("val", "==", (array, *term, 0), ZERO), closing_by(question, (("outside", array, fact),)).facts[-1])
-        for array, fact in (("c", 2), ("a", 3), ("a", 5), ("a", 6), ("a", 7), ("a", 8), ("a", 9), ("a", 10), ("a", 0), ("a", 11),
+        for array, fact, term in (("a", 2, ("m", 3)), ("b", 2, ("m", 3)), ("c", 3, I), ("a", 4, ("n", -1)),
+                                  ("c", 4, ("n", -1))):
+            self.assertEqual(("val", "==", (array, *term, 0), ZERO), closing_by(question,
+                                                                                (("outside", array, fact),)).facts[-1])
+        for array, fact in (("c", 2), ("a", 3), ("a", 5), ("a", 6), ("a", 7), ("a", 8), ("a", 9), ("a", 10), ("a", 0),
+                            ("a", 11),
                             ("a", 12), ("d", 4), ("n", 4), ("i", 4), (None, 4), (["a"], 4), ("a", -8), ("a", None)):
             with self.assertRaises(InvalidOperation, msg=repr((array, fact))):
                 Closing(question).outside(array, fact)
@@ -243,15 +267,20 @@ class TreeTest(unittest.TestCase):
                  position("==", I, J), position("<", I, I), ("val", "<", ("x", 0), ZERO), position("<=", ZERO, I),
                  position("<=", I, ZERO), ("val", "<=", ZERO, ("x", 0)), ("not", position("==", I, J)))
         question = Question(FRAME, given, NO)
-        for steps in (((1, 0), (2, 0)), ((2, 0), (1, 0)), ((1, 0), (4, 0)), ((3, 0), (4, 0)), ((4, 0), (3, 0)), ((1, 0), (5, 1)),
-                      ((5, 0), (4, 0)), ((6, 0),), ((6, 0), (6, 0)), ((1, 0), (2, 0), (1, 0), (2, 0)), ((7, 0), (10, 0)),
+        for steps in (((1, 0), (2, 0)), ((2, 0), (1, 0)), ((1, 0), (4, 0)), ((3, 0), (4, 0)), ((4, 0), (3, 0)),
+                      ((1, 0), (5, 1)),
+                      ((5, 0), (4, 0)), ((6, 0),), ((6, 0), (6, 0)), ((1, 0), (2, 0), (1, 0), (2, 0)),
+                      ((7, 0), (10, 0)),
                       ((6, 0), (5, 0), (5, 1))):
             self.trees(question, (("ring", steps),))
             self.assertEqual(0, Closing(question).ring(steps))
-        for steps in ((), ((1, 0),), ((1, 0), (3, 0)), ((2, 0), (3, 0)), ((5, 0), (5, 1)), ((1, 0), (5, 0)), ((1, 0), (5, 2)),
+        for steps in ((), ((1, 0),), ((1, 0), (3, 0)), ((2, 0), (3, 0)), ((5, 0), (5, 1)), ((1, 0), (5, 0)),
+                      ((1, 0), (5, 2)),
                       ((1, 0), (2, 1)), ((1, 0), (2, -1)), ((1, 0), (2, False)), ((True, 0), (2, 0)), ((1, 0), [2, 0]),
-                      [(1, 0), (2, 0)], ((1, 0), (2,)), ((1, 0), (2, 0, 0)), ((1, 0), None), None, (1, 0), ((11, 0),), ((12, 0),),
-                      ((13, 0), (1, 0)), ((-7, 0),), ((0, 0),), ((8, 0), (7, 0), (10, 0), (9, 0)), ((7, 0), (9, 0)), ((1, 0), (2, None)),
+                      [(1, 0), (2, 0)], ((1, 0), (2,)), ((1, 0), (2, 0, 0)), ((1, 0), None), None, (1, 0), ((11, 0),),
+                      ((12, 0),),
+                      ((13, 0), (1, 0)), ((-7, 0),), ((0, 0),), ((8, 0), (7, 0), (10, 0), (9, 0)), ((7, 0), (9, 0)),
+                      ((1, 0), (2, None)),
                       ((8, 0), (9, 0)), ((7, 0), (8, 0), (9, 0)), ("ab",), ((1, 0), (2, 0), (6, 0), (1, 0))):
             self.no_trees(question, (("ring", steps),))
             with self.assertRaises(InvalidOperation, msg=repr(steps)):
@@ -259,7 +288,8 @@ class TreeTest(unittest.TestCase):
 
     def test_positions_and_values_are_not_mixed(self):
         # The number 0 is a point of both kinds.
-        given = (position("<", I, ZERO), position("<=", ZERO, I), ("val", "<", ("x", 0), ZERO), ("val", "<=", ZERO, ("x", 0)),
+        given = (position("<", I, ZERO), position("<=", ZERO, I), ("val", "<", ("x", 0), ZERO),
+                 ("val", "<=", ZERO, ("x", 0)),
                  position("<=", ("", 1), ZERO), ("val", "<=", ZERO, ZERO))
         question = Question(FRAME, given, NO)
         self.trees(question, (("ring", ((1, 0), (2, 0))),), (("ring", ((3, 0), (4, 0))),), (("ring", ((5, 0),)),))
@@ -310,7 +340,8 @@ class TreeTest(unittest.TestCase):
     def test_facts_at(self):
         self.assertEqual(NEXT.facts, facts_at(NEXT, TREE, 0))
         self.assertEqual(NEXT.facts + (
-            ("and", (("pos", "<=", ZERO, Q), ("pos", "<=", Q, ("i", 1)))), ("not", ("val", "<=", ("a", "q", 0, 0), ("x", 0)))),
+            ("and", (("pos", "<=", ZERO, Q), ("pos", "<=", Q, ("i", 1)))),
+            ("not", ("val", "<=", ("a", "q", 0, 0), ("x", 0)))),
             facts_at(NEXT, TREE, 1))
         self.assertEqual(12, len(facts_at(NEXT, TREE, 11)))
         self.assertEqual(("not", ("pos", "<=", Q, I)), facts_at(NEXT, TREE, 11)[11])
@@ -360,7 +391,8 @@ class TruthTest(unittest.TestCase):
             return (kind, chance.choice(terms), chance.choice(terms))
         if kind in ("same", "outside"):
             return (kind, chance.choice(frame.arrays)[0], fact)
-        return (kind, tuple((chance.randrange(len(facts)), chance.choice((0, 0, 1))) for _ in range(chance.choice((1, 2)))))
+        many = chance.choice((1, 2))
+        return (kind, tuple((chance.randrange(len(facts)), chance.choice((0, 0, 1))) for _ in range(many)))
 
     def test_random_steps(self):
         seen = {}
@@ -371,7 +403,8 @@ class TruthTest(unittest.TestCase):
                 situation = maker.situation(3, 2)
                 if question.is_broken_by(situation):
                     self.walk(maker, question, situation, seen)
-        self.assertTrue(all(seen.get(kind, 0) > 20 for kind in ("part", "cases", "new", "at", "apart", "same", "outside")), seen)
+        for kind in ("part", "cases", "new", "at", "apart", "same", "outside"):
+            self.assertGreater(seen.get(kind, 0), 20, kind)
 
     def walk(self, maker, question, situation, seen):
         numbers = {"": 0, **situation.positions, **situation.lengths}
@@ -407,7 +440,8 @@ class ClosingTest(unittest.TestCase):
             numbers.append(getattr(closing, step[0])(*step[1:]))
             opened.append(closing.open_nodes)
         self.assertEqual([0, 1, 2, 3, 4, 7, 8, 10, 11, 9, 5, 6, 12], numbers)
-        self.assertEqual([(1,), (2,), (3,), (4, 5, 6), (5, 6, 7), (5, 6, 8, 9), (5, 6, 9, 10, 11), (5, 6, 9, 11), (5, 6, 9),
+        self.assertEqual([(1,), (2,), (3,), (4, 5, 6), (5, 6, 7), (5, 6, 8, 9), (5, 6, 9, 10, 11), (5, 6, 9, 11),
+                          (5, 6, 9),
                           (5, 6), (6,), (12,), ()], opened)
         self.assertTrue(bool(closing))
         self.assertEqual("closing with 13 nodes, 0 open", str(closing))
@@ -427,7 +461,8 @@ class ClosingTest(unittest.TestCase):
 
     def test_wrong_steps_have_no_effect(self):
         wrong = (("part", 4, 2), ("part", 1, 0), ("cases", 1), ("cases", None), ("new", 3, ("i",)), ("new", 3, ["r"]),
-                 ("use", 1, (("r", 0),)), ("use", 3, (I,)), ("apart", I, ("r", 0)), ("same", "a", 1), ("outside", "a", 0),
+                 ("use", 1, (("r", 0),)), ("use", 3, (I,)), ("apart", I, ("r", 0)), ("same", "a", 1),
+                 ("outside", "a", 0),
                  ("ring", ()), ("ring", ((0, 0),)), ("ring", [(0, 0)]), ("part", True, 0))
         closing = Closing(NEXT)
         for step in STEPS:
