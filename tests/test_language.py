@@ -182,7 +182,7 @@ class LanguageTest(unittest.TestCase):
             classes = [node.name for node in tree.body if isinstance(node, ast.ClassDef)]
             bound = list(bound_names(tree))
             self.none_of((path, name) for name, line in bound if name in BANNED_NAMES + BUILTINS + top)
-            self.none_of((path, name) for name, line in bound if name in classes and bound.count((name, line)) > 1)
+            self.none_of((path, name) for name in classes if [word for word, line in bound].count(name) > 1)
             known = {name for name, line in bound} | set(top) | set(BUILTINS)
             self.none_of((path, node.id) for node in ast.walk(tree)
                          if isinstance(node, ast.Name) and node.id not in known)
