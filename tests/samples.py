@@ -71,7 +71,7 @@ class Maker:
         return (word, 0 if word in own else self.number())
 
     def value(self, own=()):
-        if self.random.random() < 0.4:
+        if len(self.frame.arrays) == 0 or self.random.random() < 0.4:
             return (self.random.choice(("",) + self.frame.amounts), self.number())
         return (self.random.choice(self.frame.arrays)[0], *self.term(own), self.random.choice((0, 0, 1)))
 

@@ -21,9 +21,9 @@ def is_atom(frame, value, own):
     return all([is_value_over(frame, term, own) for term in value[2:]])
 
 
-def has_parts(value, is_part):
-    """Whether behind the first word there is one tuple of parts, and nothing else."""
-    return len(value) == 2 and isinstance(value[1], tuple) and all([is_part(part) for part in value[1]])
+def has_parts(value):
+    """Whether behind the first word there is one tuple, and nothing else."""
+    return len(value) == 2 and isinstance(value[1], tuple)
 
 
 def is_form(frame, value, depth):
@@ -36,7 +36,7 @@ def is_form(frame, value, depth):
     if word == "not":
         return len(value) == 2 and is_form(frame, value[1], depth - 1)
     if word in ("and", "or"):
-        return has_parts(value, lambda part: is_form(frame, part, depth - 1))
+        return has_parts(value) and all([is_form(frame, part, depth - 1) for part in value[1]])
     return word == "all" and is_all_form(frame, value, depth)
 
 
@@ -56,7 +56,9 @@ def is_guard(frame, value, own, depth):
         return False
     if value[0] == "pos":
         return is_atom(frame, value, own) and is_guard_atom(value, own)
-    return value[0] in ("and", "or") and has_parts(value, lambda part: is_guard(frame, part, own, depth - 1))
+    if value[0] not in ("and", "or") or not has_parts(value):
+        return False
+    return all([is_guard(frame, part, own, depth - 1) for part in value[1]])
 
 
 def is_guard_atom(atom, own):
@@ -74,7 +76,9 @@ def is_body(frame, value, own, depth):
         return is_atom(frame, value, own) and all([has_own_unshifted(term, own) for term in value[2:]])
     if word == "not":
         return len(value) == 2 and is_body(frame, value[1], own, depth - 1)
-    return word in ("and", "or") and has_parts(value, lambda part: is_body(frame, part, own, depth - 1))
+    if word not in ("and", "or") or not has_parts(value):
+        return False
+    return all([is_body(frame, part, own, depth - 1) for part in value[1]])
 
 
 def has_own_unshifted(term, own):

@@ -22,6 +22,10 @@ class Meaning:
         """The lengths of all arrays."""
         return [len(row) for row in self._rows.values()]
 
+    def is_inside(self, array, position):
+        """Whether a position is inside of an array."""
+        return 0 <= position < len(self._rows[array])
+
     def cell(self, array, position):
         """The cell of an array, 0 outside of it."""
         row = self._rows[array]
@@ -37,6 +41,10 @@ class Meaning:
             return self._contents[term[0]] + term[1]
         return self.cell(term[0], self.position(term[1:3])) + term[3]
 
+    def miss(self, claim):
+        """The least tuple of numbers for its own names for which an all is false, or None."""
+        return first_failure(self, claim)
+
     def holds(self, claim):
         """Whether a claim is true."""
         word = claim[0]
@@ -47,7 +55,7 @@ class Meaning:
         if word == "or":
             return self._has_part(claim[1], True)
         if word == "all":
-            return first_failure(self, claim) is None
+            return self.miss(claim) is None
         if word == "pos":
             return is_compared(self.position(claim[2]), claim[1], self.position(claim[3]))
         return is_compared(self.content(claim[2]), claim[1], self.content(claim[3]))

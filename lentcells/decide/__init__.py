@@ -1,0 +1,1 @@
+"""Whether questions follow, and what shows it."""

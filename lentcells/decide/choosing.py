@@ -1,0 +1,162 @@
+"""Which step a search does next: one that opens as few cases as possible, where its sketch breaks something."""
+
+from lentcells.decide.agree import soft_pairs, soft_reasons, soft_ring
+from lentcells.decide.search import is_of_positions
+from lentcells.decide.sketch import Sketch, known_spots, numbers_for
+from lentcells.logic.forms import atoms_in
+from lentcells.logic.putting import opened_all
+from lentcells.solve.points import said_by
+from lentcells.solve.steps import cases_of, parts_of
+
+# So many ways to use alls are looked at closely.
+TRIES = 12
+
+
+def below(one, other):
+    """The claim that one position term is less than another one."""
+    return ("pos", "<", one, other)
+
+
+def literals_in(claim):
+    """The atoms, and nots of atoms, that are true if the claim is, as far as they stand in it without cases."""
+    if len(said_by(claim)) > 0:
+        return [claim]
+    return [literal for part in parts_of(claim) for literal in literals_in(part)]
+
+
+def is_clash(search, literals):
+    """Whether differences that are known close a ring with these atoms."""
+    for bounds, positions in ((search.spans, True), (search.worths, False)):
+        chosen = [claim for claim in literals if is_of_positions(claim) == positions]
+        if len(chosen) > 0 and bounds.clash([difference for claim in chosen for difference in said_by(claim)]):
+            return True
+    return False
+
+
+def weight(search, claim):
+    """In how many ways a claim can be true, as far as single atoms tell it."""
+    cases = cases_of(claim)
+    if cases is not None:
+        return sum([weight(search, case) for case in cases])
+    if is_clash(search, literals_in(claim)):
+        return 0
+    return min([1] + [weight(search, part) for part in parts_of(claim)])
+
+
+def cells_at(body, own, terms):
+    """The cells that a body reads with these terms in the place of its own names."""
+    given = {word: term for word, term in zip(own, terms)}
+    read = [term for atom in atoms_in(body) for term in atom[2:] if len(term) == 4]
+    return [(term[0], *given[term[1]]) for term in read if term[1] in given]
+
+
+class Choosing:
+    """What stands to be done on the way of a search."""
+
+    def __init__(self, search):
+        self._search = search
+        self._done = [turn.step for turn in search.turns]
+        frame = search.base
+        numbers = numbers_for(frame, search.made, search.spans.fit())
+        self._cells = search.worths.cells()
+        mark = search.worths.mark()
+        ring = soft_ring(search.worths, soft_pairs(frame, numbers, self._cells))
+        contents = search.worths.fit()
+        search.worths.back_to(mark)
+        self._soft = [] if ring is None else soft_reasons(ring)
+        self._seats = {}
+        for term in [*search.seats, *[(word, 0) for word in search.made]]:
+            self._seats.setdefault(numbers[term[0]] + term[1], []).append(term)
+        amounts = {word: contents.get(word, 0) for word in ("", *frame.amounts)}
+        spots = known_spots(frame, numbers, self._cells, contents)
+        self.sketch = Sketch(frame, spots, numbers, amounts, sorted(self._seats))
+
+    def numbered(self, role):
+        """The pairs (number, fact) of the facts with a role."""
+        told = self._search.told
+        return [(number, told[number]) for number, found in enumerate(self._search.roles) if found == role]
+
+    def cases(self):
+        """The pairs (weight, step) for facts with cases that are false."""
+        found = []
+        for number, fact in self.numbered("cases"):
+            if not self.sketch.holds(fact):
+                found.append((weight(self._search, fact), ("cases", number)))
+        return found
+
+    def uses(self):
+        """The pairs (weight, step) for alls that are false, where few new cells come up."""
+        ways = [way for number, fact in self.numbered("at") for way in self._uses_of(number, fact)]
+        return [(self._weight_at(number, terms), ("at", number, terms)) for new, number, terms in sorted(ways)[:TRIES]]
+
+    def _uses_of(self, number, fact):
+        found = []
+        for at in self.sketch.misses(fact):
+            for terms in self._terms_at(at):
+                new = [cell for cell in cells_at(fact[3], fact[1], terms) if cell not in self._cells]
+                if ("at", number, terms) not in self._done:
+                    found.append((len(new), number, terms))
+        return found
+
+    def _terms_at(self, at):
+        if len(at) == 1:
+            return [(one,) for one in self._seats[at[0]]]
+        return [(one, other) for one in self._seats[at[0]] for other in self._seats[at[1]]]
+
+    def _weight_at(self, number, terms):
+        guard, body = opened_all(self._search.base, self._search.told[number], terms)
+        return weight(self._search, ("or", (("not", guard), body)))
+
+    def partings(self):
+        """The pairs (weight, step) for what is equal in the sketch, but not known to be."""
+        found = []
+        for reason in self._soft:
+            if reason[0] == "same":
+                found.extend(self._same_steps(reason[1], reason[2], reason[3]))
+            else:
+                found.extend(self._outside_steps(reason[1], reason[2]))
+        return found
+
+    def _same_steps(self, array, one, other):
+        facts = [("pos", "==", one, other), ("pos", "==", other, one)]
+        return self._steps_by("same", array, facts, (below(one, other), below(other, one)), (one, other))
+
+    def _outside_steps(self, array, term):
+        length = self._search.base.length_of(array)
+        fact = below(term, ("", 0))
+        if not self.sketch.holds(fact):
+            fact = below((length, -1), term)
+        one, other = fact[2:]
+        others = (below(other, one), ("pos", "==", one, other))
+        return self._steps_by("outside", array, [fact], others, (one, other))
+
+    def _steps_by(self, kind, array, facts, others, pair):
+        told = self._search.told
+        steps = [(kind, array, told.index(fact)) for fact in facts if fact in told]
+        if len(steps) > 0:
+            return [(0, step) for step in steps if step not in self._done][:1]
+        many = sum([weight(self._search, claim) for claim in others])
+        return [(many + min([len(self._soft) - 1, 1]), ("apart", *pair))]
+
+
+def lightest(pairs):
+    """The first pair with the least weight, or None."""
+    found = None
+    for pair in pairs:
+        if found is None or pair[0] < found[0]:
+            found = pair
+    return found
+
+
+def chosen(choosing):
+    """The step that is to be done next, or None if the sketch breaks nothing."""
+    cases = lightest(choosing.cases())
+    if cases is not None and cases[0] <= 1:
+        return cases[1]
+    uses = lightest(choosing.uses())
+    if uses is not None and uses[0] <= 1:
+        return uses[1]
+    found = lightest([pair for pair in (lightest(choosing.partings()), cases) if pair is not None])
+    if found is None:
+        found = uses
+    return None if found is None else found[1]

@@ -1,0 +1,1 @@
+"""Runs of programs."""
