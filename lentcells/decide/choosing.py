@@ -56,11 +56,13 @@ class Choosing:
     def __init__(self, search):
         self._search = search
         self._done = [turn.step for turn in search.turns]
+        self._used = {step[1:]: True for step in self._done if step[0] == "at"}
         frame = search.base
         numbers = numbers_for(frame, search.made, search.spans.fit())
-        self._cells = search.worths.cells()
+        cells = search.worths.cells()
+        self._cells = {cell: True for cell in cells}
         mark = search.worths.mark()
-        ring = soft_ring(search.worths, soft_pairs(frame, numbers, self._cells))
+        ring = soft_ring(search.worths, soft_pairs(frame, numbers, cells))
         contents = search.worths.fit()
         search.worths.back_to(mark)
         self._soft = [] if ring is None else soft_reasons(ring)
@@ -68,7 +70,7 @@ class Choosing:
         for term in [*search.seats, *[(word, 0) for word in search.made]]:
             self._seats.setdefault(numbers[term[0]] + term[1], []).append(term)
         amounts = {word: contents.get(word, 0) for word in ("", *frame.amounts)}
-        spots = known_spots(frame, numbers, self._cells, contents)
+        spots = known_spots(frame, numbers, cells, contents)
         self.sketch = Sketch(frame, spots, numbers, amounts, sorted(self._seats))
 
     def numbered(self, role):
@@ -93,8 +95,8 @@ class Choosing:
         found = []
         for at in self.sketch.misses(fact):
             for terms in self._terms_at(at):
-                new = [cell for cell in cells_at(fact[3], fact[1], terms) if cell not in self._cells]
-                if ("at", number, terms) not in self._done:
+                if (number, terms) not in self._used:
+                    new = [cell for cell in cells_at(fact[3], fact[1], terms) if cell not in self._cells]
                     found.append((len(new), number, terms))
         return found
 
@@ -148,7 +150,7 @@ def lightest(pairs):
     return found
 
 
-def chosen(choosing):
+def next_step(choosing):
     """The step that is to be done next, or None if the sketch breaks nothing."""
     cases = lightest(choosing.cases())
     if cases is not None and cases[0] <= 1:

@@ -1,6 +1,7 @@
 """Questions decided: by a proof that they follow, or by a situation that breaks them."""
 
-from lentcells.decide.choosing import Choosing, chosen
+from lentcells.decide.choosing import Choosing, next_step
+from lentcells.decide.proofs import size_of, tree_of
 from lentcells.decide.search import Search
 from lentcells.errors import TooMany
 from lentcells.solve.questions import check_question
@@ -8,6 +9,8 @@ from lentcells.world.situations import loose_situation
 
 MAX_MEMBERS = 16
 MAX_FEW = 1000
+# So often a tree is made anew with fewer facts, as long as it gets smaller.
+ROUNDS = 4
 
 
 def check_size(question):
@@ -27,31 +30,52 @@ def situation_of(frame, sketch):
     return loose_situation(frame, rows, positions, {word: sketch.content((word, 0)) for word in frame.amounts})
 
 
+def searched(question, chosen):
+    """A search with the chosen facts that is over, and the sketch that breaks nothing of them, or None."""
+    search = Search(question, chosen)
+    while search.proof is None:
+        if search.is_closed():
+            search.go_back()
+        else:
+            choosing = Choosing(search)
+            step = next_step(choosing)
+            if step is None:
+                return search, choosing.sketch
+            search.do(step)
+    return search, None
+
+
+def smallest(question, search):
+    """A search with a proof that is as small as it gets where facts that the last proof did not need are left out."""
+    # That lengths are not negative is always kept: sketches without it would not be like situations.
+    lengths = {fact: True for fact in range(len(question.frame.lengths))}
+    for _ in range(ROUNDS):
+        further, sketch = searched(question, {**lengths, **search.grounds})
+        if sketch is not None or size_of(further.proof) >= size_of(search.proof):
+            return search
+        search = further
+    return search
+
+
 class Decision:
-    """What was found of a question: `proof`, with the facts that it needs, or a situation that breaks it."""
+    """What was found of a question: a proof, with the facts on which it hangs, or a situation that breaks it."""
 
     def __init__(self, question):
         check_question(question)
         check_size(question)
-        self.question = question
-        self.broken = None
-        search = Search(question)
-        while search.proof is None and self.broken is None:
-            self._go_on(search)
-        self.proof, self.grounds = search.proof, search.grounds
+        self._question = question
+        self.search, sketch = searched(question, {fact: True for fact in range(len(question.facts))})
+        self.broken = None if sketch is None else question.small(situation_of(question.frame, sketch))
 
-    def _go_on(self, search):
-        if search.is_closed():
-            search.go_back()
-            return
-        choosing = Choosing(search)
-        step = chosen(choosing)
-        if step is None:
-            self.broken = self.question.small(situation_of(self.question.frame, choosing.sketch))
-        else:
-            search.do(step)
+    def follows(self):
+        """Whether the question follows."""
+        return self.broken is None
+
+    def made_tree(self):
+        """A tree of the question."""
+        return tree_of(self._question, smallest(self._question, self.search).proof)
 
     def given(self):
         """The ascending indices of the given claims on which the proof hangs."""
-        first = len(self.question.frame.lengths)
-        return [place for place in range(len(self.question)) if first + place in self.grounds]
+        first = len(self._question.frame.lengths)
+        return [place for place in range(len(self._question)) if first + place in self.search.grounds]

@@ -3,7 +3,6 @@
 from lentcells.base.frames import check_frame
 from lentcells.base.integers import check_undo
 from lentcells.decide.deciding import Decision
-from lentcells.decide.proofs import tree_of
 from lentcells.errors import InvalidOperation, Refused
 from lentcells.logic.claims import check_claim, is_claim
 from lentcells.solve.questions import MAX_GIVEN, Question, check_question
@@ -14,7 +13,7 @@ NEVER = ("or", ())
 
 def follows(question):
     """Whether the question follows."""
-    return Decision(question).proof is not None
+    return Decision(question).follows()
 
 
 def breaking(question):
@@ -25,9 +24,9 @@ def breaking(question):
 def paper(question):
     """Any paper that shows whether the question follows."""
     decision = Decision(question)
-    if decision.proof is None:
+    if not decision.follows():
         return ("broken", decision.broken)
-    return ("follows", tree_of(question, decision.proof))
+    return ("follows", decision.made_tree())
 
 
 def is_paper(question, value):
@@ -43,7 +42,7 @@ def is_paper(question, value):
 def core(question):
     """The indices of given claims that remain if each is taken away, one after the other, that is not needed."""
     decision = Decision(question)
-    if decision.proof is None:
+    if not decision.follows():
         raise InvalidOperation("the question does not follow")
     kept = list(range(len(question)))
     needed = decision.given()
@@ -51,7 +50,7 @@ def core(question):
         fewer = question.without_given(kept.index(place))
         if place in needed:
             decision = Decision(fewer)
-            if decision.proof is None:
+            if not decision.follows():
                 continue
             # What this proof does not need can go without a further look.
             rest = [number for number in kept if number != place]
@@ -74,10 +73,9 @@ class Asker:
         check_claim(self._frame, claim)
         if len(self._known) >= MAX_GIVEN - 1:
             raise InvalidOperation("no more claims can be known")
-        question = self._against(claim)
-        proof = Decision(question).proof
-        if proof is not None:
-            raise Refused(tree_of(question, proof))
+        decision = Decision(self._against(claim))
+        if decision.follows():
+            raise Refused(decision.made_tree())
         self._known = (*self._known, claim)
         return True
 

@@ -36,3 +36,13 @@ def tree_of(question, proof):
         for added, further in reversed(list(proofs)):
             waiting.append((further, number, added, known, node))
     return tuple([node_of(step, tuple(named)) for step, named in zip(steps, nexts)])
+
+
+def size_of(proof):
+    """How many nodes the tree of a proof has."""
+    many = 0
+    waiting = [proof]
+    while len(waiting) > 0:
+        many += 1
+        waiting.extend([further for added, further in waiting.pop()[2]])
+    return many

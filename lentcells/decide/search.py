@@ -82,9 +82,12 @@ class Turn:
 
 
 class Search:
-    """The facts on the way, and the differences that their atoms say."""
+    """The facts on the way, and the differences that their atoms say.
 
-    def __init__(self, question):
+    Only those facts of the question are looked at that are keys of the dict `chosen`.
+    """
+
+    def __init__(self, question, chosen):
         self.base = question.frame
         self.seats = [term for term in question.members if term[0] not in question.fresh]
         self.told = []
@@ -97,6 +100,7 @@ class Search:
         self.grounds = {}
         self._words = words_for(question.frame)
         self._closing = None
+        self._left_out = {fact: True for fact in range(len(question.facts)) if fact not in chosen}
         self._absorb(question.facts)
 
     def is_closed(self):
@@ -108,14 +112,19 @@ class Search:
         self.told.extend(claims)
         while len(self.roles) < len(self.told) and not self.is_closed():
             number = len(self.roles)
-            fact = self.told[number]
-            self.roles.append(role_of(fact))
-            self._say(number, fact)
-            for place in range(len(parts_of(fact))):
-                self._add(("part", number, place))
-            if self.roles[number] == "new":
-                many = len(self.made)
-                self._add(("new", number, tuple(self._words[many:many + len(fact[1][1])])))
+            if number in self._left_out:
+                self.roles.append("")
+            else:
+                self._take_in(number, self.told[number])
+
+    def _take_in(self, number, fact):
+        self.roles.append(role_of(fact))
+        self._say(number, fact)
+        for place in range(len(parts_of(fact))):
+            self._add(("part", number, place))
+        if self.roles[number] == "new":
+            many = len(self.made)
+            self._add(("new", number, tuple(self._words[many:many + len(fact[1][1])])))
 
     def _say(self, number, fact):
         said = said_by(fact)
