@@ -68,10 +68,21 @@ class Maker:
         self.told = self.headings[called]
         self.left = self.random.randint(0, rows)
         self.loops = 0
-        made = self.rows(0)
+        made = self.first_lends() + self.rows(0)
         whiles = self.loops
         notes = tuple(tuple(self.note() for _ in range(self.random.choice((0, 0, 1)))) for _ in range(whiles))
         return Function(called, **self.told, rows=made, notes=notes)
+
+    def first_lends(self):
+        """Often all loans get a parameter first, so that fewer functions have faults."""
+        if self.chance(0.4):
+            return ()
+        made = []
+        for way, loan, length in self.told["loans"]:
+            found = [told[1] for told in self.told["arrays"] if told[2] == length and (way == "look" or told[0] == way)]
+            if found:
+                made.append(("lend", loan, self.random.choice(found)))
+        return tuple(made)
 
     def array(self, ways=("full", "look"), length=None):
         """An array name with one of these ways, or None."""
