@@ -3,7 +3,15 @@
 import unittest
 
 from lentcells.base.frames import Frame
+from lentcells.code.functions import Function
+from lentcells.code.programs import Program
+from lentcells.decide.follows import Asker, breaking, follows, paper
+from lentcells.loans.facts import behind, first_state, next_rows, uses
+from lentcells.loans.shapes import shape_of, shapes, wanted
+from lentcells.loans.tables import Table
+from lentcells.loans.trails import faulty_walk, walk_to
 from lentcells.logic.claims import all_between, carried, is_claim, names_of, replaced, used_at
+from lentcells.runs.runs import Run
 from lentcells.solve.differences import differences_of, is_ring, ring, tightest
 from lentcells.solve.questions import Question
 from lentcells.solve.trees import Closing
@@ -71,6 +79,74 @@ class ExamplesTest(unittest.TestCase):
             [closing.cases(9), closing.cases(10), closing.ring(((11, 0), (6, 0))), closing.facts[11],
              closing.open_nodes,
              str(closing)])
+
+    def test_what_follows(self):
+        given = (UPTO, ("val", "<=", ("a", "i", 1, 0), ("x", 0)))
+        following = Question(FRAME, given, replaced(FRAME, UPTO, {"i": ("i", 1)}))
+        broken = Question(FRAME, (UPTO,), replaced(FRAME, UPTO, {"i": ("i", 1)}))
+        self.assertEqual([True, False, None, True, "follows"], [
+            follows(following), follows(broken), breaking(following), broken.is_broken_by(breaking(broken)),
+            paper(following)[0]])
+        asker = Asker(FRAME)
+        self.assertEqual([True, "open", True, "yes", "asker with 2 claims"], [
+            asker.tell(UPTO), asker.ask(("val", "<=", ("a", "i", 0, 0), ("x", 0))),
+            asker.tell(("pos", "<=", ("", 0), ("i", 0))), asker.ask(("val", "<=", ("a", "i", 0, 0), ("x", 0))),
+            str(asker)])
+
+    def test_programs(self):
+        up = ("pos", "<", ("i", 0), ("n", 0))
+        done = ("all", ("k",), ("and", (("pos", "<=", ("", 0), ("k", 0)), ("pos", "<=", ("k", 0), ("i", -1)))),
+                ("val", "==", ("a", "k", 0, 0), ("x", 0)))
+        span = (("pos", "<=", ("", 0), ("i", 0)), ("pos", "<=", ("i", 0), ("n", 0)))
+        every = ("all", ("k",), ("and", (("pos", "<=", ("", 0), ("k", 0)), ("pos", "<=", ("k", 0), ("n", -1)))),
+                 ("val", "==", ("a", "k", 0, 0), ("x", 0)))
+        fill = Function("fill", arrays=(("full", "a", "n", "old"),), values=("x",), places=("i",),
+                        rows=(("while", up, (("write", "a", "i", 0, ("x", 0)), ("move", "i", ("i", 1)))),),
+                        notes=((done, *span),), after=(every,))
+        twice = Function("twice", arrays=(("full", "b", "m", "was"), ("look", "c", "m")), loans=(("full", "r", "m"),),
+                         rows=(("lend", "r", "b"), ("call", "fill", ("r",), (), (("", 7),)),
+                               ("if", ("pos", "<", ("", 0), ("m", 0)), (("write", "b", "", 0, ("c", "", 0, 0)),), ())))
+        both = Program((twice, fill))
+        self.assertEqual(
+            ["fill: 3 rows, 1 loops", "program of 2 functions, 7 rows", ("fill", "twice"), ("fill",),
+             ("write", "a", "i", 0, ("x", 0)), "full", (("a", "n"), ("old", "n")),
+             (("b", "m"), ("c", "m"), ("r", "m"), ("was", "m")), ("twice",)],
+            [str(fill), str(both), both.names, twice.callees, fill.row(1), twice.way_of("r"), fill.end_frame.arrays,
+             twice.frame.arrays, both.callers("fill")])
+
+    def test_loans(self):
+        rows = (("lend", "r", "p"),
+                ("while", ("pos", "<", ("i", 0), ("n", 0)),
+                 (("lend", "s", "r"), ("write", "r", "i", 0, ("s", "i", 0, 0)), ("move", "i", ("i", 1)))))
+        lent = Program((Function("f", arrays=(("full", "p", "n", "w"),), loans=(("full", "r", "n"), ("look", "s", "n")),
+                                 places=("i",), rows=rows, notes=((),)),))
+        self.assertEqual(
+            [(2, 5), (("look", "s"), ("full", "r")), (("empty", "r"), ("empty", "s")),
+             (("empty", "s"), ("held", "r"), ("into", "r", "p"))],
+            [next_rows(lent, "f", 1), uses(lent, "f", 3), first_state(lent, "f"),
+             behind(lent, "f", 0, first_state(lent, "f"))])
+        table = Table(lent, "f")
+        self.assertEqual(
+            [(("held", "r"), ("held", "s"), ("into", "r", "p"), ("into", "s", "p"), ("into", "s", "r")), True, True, (),
+             "table of f: 34 facts, 0 faults"],
+            [table.state(3), table.state(5) == table.state(1), table.has(1, ("ended", "s")), table.faults, str(table)])
+        self.assertEqual(
+            [(0, 1, 2, 3, 4), ("r",), ((("r", "p"),),), (("r", "p"),), None],
+            [walk_to(lent, "f", 1, fact=("ended", "s")), wanted(lent, "f", 0), shapes(lent, "f", 0),
+             shape_of(lent, "f", 0, (0,)), faulty_walk(lent, "f")])
+
+    def test_runs(self):
+        two = Function("two", arrays=(("full", "a", "n", "aa"), ("full", "b", "n", "bb")),
+                       rows=(("write", "a", "", 0, ("", 1)), ("write", "b", "", 1, ("", 2))))
+        outer = Function("twice", arrays=(("full", "c", "m", "cc"),), loans=(("full", "r", "m"),),
+                         rows=(("lend", "r", "c"), ("call", "two", ("r", "c"), (), ())))
+        shared = Program((two, outer))
+        zeros = Situation(outer.start_frame, {"c": (0, 0)}, {}, {})
+        run = Run(shared, "twice", zeros, careless=True)
+        self.assertEqual(
+            [("twice", 0), ("twice", 1), "two", 0, ("two", 0), 1, "run in two at 1: 3 steps", 1, 2],
+            [run.advance(), run.advance(), run.inner, run.place_of("b"), run.advance(), run.situation.cell("b", 0),
+             str(run), run.advance_on(), run.situation.cell("c", 1)])
 
 
 if __name__ == "__main__":
