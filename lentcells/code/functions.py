@@ -14,21 +14,22 @@ MAX_CLAIMS = 4
 MAX_ARRAYS = 4
 MAX_LOANS = 3
 MAX_OF_KIND = 3
-# How many words tell an array by its way.
-PARAMETERS = {"full": 4, "look": 3}
-LOANS = {"full": 3, "look": 3}
+# With how many words a way, an array and its length are told, and with a was name.
+WORDS = 3
+WORDS_WITH_WAS = 4
 
 
-def are_told(value, sizes, most):
-    """Whether the value is a tuple of at most so many tuples of a way and names, with these sizes."""
-    if not isinstance(value, tuple) or len(value) > most:
+def is_told(value, full_words):
+    """Whether the value is a tuple of a way and names, with so many words for a full array."""
+    if not isinstance(value, tuple) or len(value) == 0 or value[0] not in ("full", "look"):
         return False
-    for told in value:
-        if not isinstance(told, tuple) or len(told) == 0 or told[0] not in ("full", "look"):
-            return False
-        if len(told) != sizes[told[0]] or not all([is_name(word) for word in told[1:]]):
-            return False
-    return True
+    words = full_words if value[0] == "full" else WORDS
+    return len(value) == words and all([is_name(word) for word in value[1:]])
+
+
+def are_told(value, full_words, most):
+    """Whether the value is a tuple of at most so many arrays that are told so."""
+    return isinstance(value, tuple) and len(value) <= most and all([is_told(told, full_words) for told in value])
 
 
 def are_claims(frame, value):
@@ -51,7 +52,7 @@ def was_pairs(arrays):
 def check_heading(passed):
     """Raise InvalidFunction if what was passed has no names that make a frame together."""
     arrays, loans = passed["arrays"], passed["loans"]
-    if not are_told(arrays, PARAMETERS, MAX_ARRAYS) or not are_told(loans, LOANS, MAX_LOANS):
+    if not are_told(arrays, WORDS_WITH_WAS, MAX_ARRAYS) or not are_told(loans, WORDS, MAX_LOANS):
         raise InvalidFunction("these are not parameters and loans")
     for kind in ("positions", "values", "places", "numbers"):
         if not are_names(passed[kind], MAX_OF_KIND):

@@ -79,11 +79,14 @@ class Choosing:
         return [(number, told[number]) for number, found in enumerate(self._search.roles) if found == role]
 
     def cases(self):
-        """The pairs (weight, step) for facts with cases that are false."""
+        """The pairs (weight, step) for facts with cases that are false, or that have one case that can be so."""
         found = []
         for number, fact in self.numbered("cases"):
-            if not self.sketch.holds(fact):
-                found.append((weight(self._search, fact), ("cases", number)))
+            is_true = self.sketch.holds(fact)
+            if self._search.eager or not is_true:
+                many = weight(self._search, fact)
+                if not is_true or many <= 1:
+                    found.append((many, ("cases", number)))
         return found
 
     def uses(self):

@@ -1,7 +1,7 @@
 """Questions decided: by a proof that they follow, or by a situation that breaks them."""
 
 from lentcells.decide.choosing import Choosing, next_step
-from lentcells.decide.proofs import size_of, tree_of
+from lentcells.decide.proofs import size_of, tree_of, uses_in
 from lentcells.decide.search import Search
 from lentcells.errors import TooMany
 from lentcells.solve.questions import check_question
@@ -30,9 +30,15 @@ def situation_of(frame, sketch):
     return loose_situation(frame, rows, positions, {word: sketch.content((word, 0)) for word in frame.amounts})
 
 
-def searched(question, chosen):
-    """A search with the chosen facts that is over, and the sketch that breaks nothing of them, or None."""
-    search = Search(question, chosen)
+def searched(question, chosen, uses):
+    """A search with the chosen facts that is over, and the sketch that breaks nothing of them, or None.
+
+    With uses of alls, which are made first, it is an eager one.
+    """
+    search = Search(question, chosen, len(uses) > 0)
+    for step in uses:
+        if not search.is_closed() and search.can_do(step):
+            search.do(step)
     while search.proof is None:
         if search.is_closed():
             search.go_back()
@@ -50,7 +56,8 @@ def smallest(question, search):
     # That lengths are not negative is always kept: sketches without it would not be like situations.
     lengths = {fact: True for fact in range(len(question.frame.lengths))}
     for _ in range(ROUNDS):
-        further, sketch = searched(question, {**lengths, **search.grounds})
+        uses = uses_in(search.proof, len(question.facts))
+        further, sketch = searched(question, {**lengths, **search.grounds}, uses)
         if sketch is not None or size_of(further.proof) >= size_of(search.proof):
             return search
         search = further
@@ -64,7 +71,7 @@ class Decision:
         check_question(question)
         check_size(question)
         self._question = question
-        self.search, sketch = searched(question, {fact: True for fact in range(len(question.facts))})
+        self.search, sketch = searched(question, {fact: True for fact in range(len(question.facts))}, ())
         self.broken = None if sketch is None else question.small(situation_of(question.frame, sketch))
 
     def follows(self):

@@ -38,11 +38,23 @@ def tree_of(question, proof):
     return tuple([node_of(step, tuple(named)) for step, named in zip(steps, nexts)])
 
 
-def size_of(proof):
-    """How many nodes the tree of a proof has."""
-    many = 0
+def steps_of(proof):
+    """The steps of all nodes of a proof."""
+    found = []
     waiting = [proof]
     while len(waiting) > 0:
-        many += 1
-        waiting.extend([further for added, further in waiting.pop()[2]])
-    return many
+        step, number, proofs = waiting.pop()
+        found.append(step)
+        waiting.extend([further for added, further in proofs])
+    return found
+
+
+def size_of(proof):
+    """How many nodes the tree of a proof has."""
+    return len(steps_of(proof))
+
+
+def uses_in(proof, known):
+    """The different steps of a proof that use alls among the first `known` facts."""
+    steps = [step for step in steps_of(proof) if step[0] == "at" and step[1] < known]
+    return tuple(sorted(set(steps)))

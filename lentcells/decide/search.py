@@ -13,8 +13,8 @@ LETTERS = "pqrstuvwxyzabcdefghijklmno"
 
 
 def words_for(frame):
-    """More fresh names than a search can need."""
-    words = [*LETTERS, *[one + other for one in LETTERS for other in LETTERS]]
+    """More fresh names than a search can need: a frame has at most 36 names, and a question 16 new positions."""
+    words = [*LETTERS, *[one + other for one in LETTERS[:2] for other in LETTERS]]
     return [word for word in words if frame.is_fresh(word)]
 
 
@@ -84,10 +84,12 @@ class Turn:
 class Search:
     """The facts on the way, and the differences that their atoms say.
 
-    Only those facts of the question are looked at that are keys of the dict `chosen`.
+    Only those facts of the question are looked at that are keys of the dict `chosen`. An eager search does what opens
+    no real cases also where nothing asks for it, so that it is done once, ahead of the cases in which it is needed.
     """
 
-    def __init__(self, question, chosen):
+    def __init__(self, question, chosen, eager):
+        self.eager = eager
         self.base = question.frame
         self.seats = [term for term in question.members if term[0] not in question.fresh]
         self.told = []
@@ -140,6 +142,10 @@ class Search:
         self.turns.append(turn)
         self.made.extend(names_made(step))
         self.told.extend(turn.branch())
+
+    def can_do(self, step):
+        """Whether there is such a step here."""
+        return added_by(self.base, self.told, self.made, step) is not None
 
     def do(self, step):
         """Go one step on."""
