@@ -172,6 +172,34 @@ class FollowsTest(unittest.TestCase):
                 if answer:
                     self.assertFalse(any(question.is_broken_by(situation) for situation in situations))
 
+    def test_random_clauses(self):
+        rand = random.Random(11)
+        frame = Frame((("a", "n"), ("b", "m")), ("i", "j", "h"), ("x", "y"))
+        answers = []
+        for _ in range(40):
+            maker = Maker(frame, rand, 1)
+            given = [maker.all() for _ in range(rand.choice((1, 2, 4)))]
+            given += [("or", tuple(maker.atom() for _ in range(rand.choice((2, 2, 3))))) for _ in range(rand.choice((8, 20)))]
+            question = Question(frame, tuple(given), maker.all())
+            if len(question.members) <= 16:
+                answers.append(follows(question))
+                self.check(question, answers[-1])
+        self.assertEqual({True, False}, set(answers))
+
+    def test_trees_stay_small(self):
+        # Six cells of an array that goes up have six different contents of five.
+        words = ("i", "j", "h", "l", "m", "o")
+        frame = Frame((("a", "n"),), words, ())
+        high = ("all", ("k",), within(("", 0), "k", ("n", -1)),
+                ("and", (val("<=", ("", 0), ("a", "k", 0, 0)), val("<=", ("a", "k", 0, 0), ("", 4)))))
+        apart = tuple(("not", val("==", ("a", one, 0, 0), ("a", other, 0, 0)))
+                      for one, other in itertools.combinations(words, 2))
+        inside = tuple(claim for word in words
+                       for claim in (pos("<=", ("", 0), (word, 0)), pos("<", (word, 0), ("n", 0))))
+        question = Question(frame, (sorted_to("a", ("n", -1)), high, *apart, *inside), FALSE)
+        self.check(question, True)
+        self.check(question.without_given(2), False)
+
     def test_many_members_without_many_orders(self):
         frame = Frame((("a", "n"), ("b", "n")), ("i", "j", "h", "l", "m", "o"), ("x",))
         words = ("i", "j", "h", "l", "m", "o")

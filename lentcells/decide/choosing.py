@@ -55,7 +55,7 @@ class Choosing:
 
     def __init__(self, search):
         self._search = search
-        self._done = [turn.step for turn in search.turns]
+        self._done = [turn.done for turn in search.turns]
         self._used = {step[1:]: True for step in self._done if step[0] == "at"}
         frame = search.base
         numbers = numbers_for(frame, search.made, search.spans.fit())
@@ -85,14 +85,21 @@ class Choosing:
             is_true = self.sketch.holds(fact)
             if self._search.eager or not is_true:
                 many = weight(self._search, fact)
-                if not is_true or many <= 1:
+                if many <= 1:
+                    return [(many, ("cases", number))]
+                if not is_true:
                     found.append((many, ("cases", number)))
         return found
 
     def uses(self):
         """The pairs (weight, step) for alls that are false, where few new cells come up."""
         ways = [way for number, fact in self.numbered("at") for way in self._uses_of(number, fact)]
-        return [(self._weight_at(number, terms), ("at", number, terms)) for new, number, terms in sorted(ways)[:TRIES]]
+        found = []
+        for new, number, terms in sorted(ways)[:TRIES]:
+            found.append((self._weight_at(number, terms), ("at", number, terms)))
+            if found[-1][0] <= 1:
+                return found[-1:]
+        return found
 
     def _uses_of(self, number, fact):
         found = []

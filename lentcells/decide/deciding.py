@@ -1,7 +1,7 @@
 """Questions decided: by a proof that they follow, or by a situation that breaks them."""
 
 from lentcells.decide.choosing import Choosing, next_step
-from lentcells.decide.proofs import size_of, tree_of, uses_in
+from lentcells.decide.proofs import tree_of, uses_in
 from lentcells.decide.search import Search
 from lentcells.errors import TooMany
 from lentcells.solve.questions import check_question
@@ -9,8 +9,12 @@ from lentcells.world.situations import loose_situation
 
 MAX_MEMBERS = 16
 MAX_FEW = 1000
-# So often a tree is made anew with fewer facts, as long as it gets smaller.
+# A proof with more nodes is made anew, so often as long as it gets smaller.
+SMALL = 20
 ROUNDS = 4
+# How often a search for a smaller proof goes back at most, and how many nodes of the greater one are looked at.
+MAX_BACKS = 5000
+MAX_LOOK = 20000
 
 
 def check_size(question):
@@ -30,48 +34,63 @@ def situation_of(frame, sketch):
     return loose_situation(frame, rows, positions, {word: sketch.content((word, 0)) for word in frame.amounts})
 
 
-def searched(question, chosen, uses):
-    """A search with the chosen facts that is over, and the sketch that breaks nothing of them, or None.
-
-    With uses of alls, which are made first, it is an eager one.
-    """
-    search = Search(question, chosen, len(uses) > 0)
+def run_search(search, uses, most):
+    """Go on with a search until it is over or went back so often; the sketch that breaks nothing, or None."""
     for step in uses:
         if not search.is_closed() and search.can_do(step):
             search.do(step)
-    while search.proof is None:
+    while search.proof is None and search.backs < most:
         if search.is_closed():
             search.go_back()
         else:
             choosing = Choosing(search)
             step = next_step(choosing)
             if step is None:
-                return search, choosing.sketch
+                return choosing.sketch
             search.do(step)
-    return search, None
+    return None
 
 
-def smallest(question, search):
-    """A search with a proof that is as small as it gets where facts that the last proof did not need are left out."""
+def proofs_anew(question, proof):
+    """The proofs that searches find where facts that a proof does not need are left out, and its uses come first."""
     # That lengths are not negative is always kept: sketches without it would not be like situations.
-    lengths = {fact: True for fact in range(len(question.frame.lengths))}
+    chosen = {**{fact: True for fact in range(len(question.frame.lengths))}, **proof.grounds}
+    uses = uses_in(proof, len(question.facts), MAX_LOOK)
+    found = []
+    for keeping in (True, False):
+        search = Search(question, chosen, True, keeping)
+        run_search(search, uses, MAX_BACKS)
+        if search.proof is not None:
+            found.append(search.proof)
+    return found
+
+
+def smaller_proof(question, proof):
+    """A proof that is at most as great as this one."""
     for _ in range(ROUNDS):
-        uses = uses_in(search.proof, len(question.facts))
-        further, sketch = searched(question, {**lengths, **search.grounds}, uses)
-        if sketch is not None or size_of(further.proof) >= size_of(search.proof):
-            return search
-        search = further
-    return search
+        if proof.size <= SMALL:
+            return proof
+        size = proof.size
+        for found in proofs_anew(question, proof):
+            if found.size < proof.size:
+                proof = found
+        if proof.size == size:
+            return proof
+    return proof
 
 
 class Decision:
-    """What was found of a question: a proof, with the facts on which it hangs, or a situation that breaks it."""
+    """What was found of a question: a proof that it follows, or a situation that breaks it."""
 
     def __init__(self, question):
         check_question(question)
         check_size(question)
         self._question = question
-        self.search, sketch = searched(question, {fact: True for fact in range(len(question.facts))}, ())
+        search = Search(question, {fact: True for fact in range(len(question.facts))}, False, True)
+        sketch = None
+        while search.proof is None and sketch is None:
+            sketch = run_search(search, (), search.backs + MAX_BACKS)
+        self.proof = search.proof
         self.broken = None if sketch is None else question.small(situation_of(question.frame, sketch))
 
     def follows(self):
@@ -80,9 +99,9 @@ class Decision:
 
     def made_tree(self):
         """A tree of the question."""
-        return tree_of(self._question, smallest(self._question, self.search).proof)
+        return tree_of(self._question, smaller_proof(self._question, self.proof))
 
     def given(self):
         """The ascending indices of the given claims on which the proof hangs."""
         first = len(self._question.frame.lengths)
-        return [place for place in range(len(self._question)) if first + place in self.search.grounds]
+        return [place for place in range(len(self._question)) if first + place in self.proof.grounds]

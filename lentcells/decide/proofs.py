@@ -1,6 +1,6 @@
-"""Trees of what a search found."""
+"""Proofs that questions follow, and the trees that they make."""
 
-from lentcells.solve.steps import node_of
+from lentcells.solve.steps import names_made, node_of
 
 
 def renumbered(step, numbers):
@@ -15,46 +15,71 @@ def renumbered(step, numbers):
     return (kind, numbers[step[1]], *step[2:])
 
 
-def tree_of(question, proof):
-    """The tree of a proof of the question."""
-    known = len(question.facts)
-    numbers = {fact: fact for fact in range(known)}
-    steps, nexts = [], []
-    waiting = [(proof, 0, 0, known, 0)]
-    while len(waiting) > 0:
-        here, first, many, known, above = waiting.pop()
-        # What stands there of other ways is overwritten: on each way the numbers of the search go up.
-        for more in range(many):
-            numbers[first + more] = known + more
-        known += many
-        node = len(steps)
-        if node > 0:
-            nexts[above].append(node)
-        step, number, proofs = here
-        steps.append(renumbered(step, numbers))
-        nexts.append([])
-        for added, further in reversed(list(proofs)):
-            waiting.append((further, number, added, known, node))
-    return tuple([node_of(step, tuple(named)) for step, named in zip(steps, nexts)])
+def needs_of(step):
+    """The numbers of the facts, and the names, on which a step hangs."""
+    kind = step[0]
+    if kind == "ring":
+        return [fact for fact, way in step[1]]
+    if kind == "apart":
+        return [step[1][0], step[2][0]]
+    if kind == "at":
+        return [step[1], *[word for word, number in step[2]]]
+    return [step[2]] if kind in ("same", "outside") else [step[1]]
 
 
-def steps_of(proof):
-    """The steps of all nodes of a proof."""
+class Proof:
+    """A step, the marks of the facts that it adds for each of its next ones, and the proofs of these.
+
+    `grounds` has as keys the marks of the facts and the names that have to be there, `words` the names that are made,
+    and `size` is the number of nodes of the tree.
+    """
+
+    def __init__(self, step, fresh_marks, proofs):
+        self.step = step
+        self.fresh_marks = fresh_marks
+        self.proofs = proofs
+        self.size = 1 + sum([proof.size for proof in proofs])
+        made = {word: True for word in names_made(step)}
+        self.words = {word: True for proof in proofs for word in proof.words}
+        self.grounds = {need: True for need in needs_of(step)}
+        for marks, proof in zip(fresh_marks, proofs):
+            for need in proof.grounds:
+                if need not in marks and need not in made:
+                    self.grounds[need] = True
+        for word in made:
+            self.words[word] = True
+
+
+def steps_of(proof, most):
+    """The steps of so many nodes of a proof."""
     found = []
     waiting = [proof]
-    while len(waiting) > 0:
-        step, number, proofs = waiting.pop()
-        found.append(step)
-        waiting.extend([further for added, further in proofs])
+    while len(waiting) > 0 and len(found) < most:
+        here = waiting.pop()
+        found.append(here.step)
+        waiting.extend(here.proofs)
     return found
 
 
-def size_of(proof):
-    """How many nodes the tree of a proof has."""
-    return len(steps_of(proof))
-
-
-def uses_in(proof, known):
-    """The different steps of a proof that use alls among the first `known` facts."""
-    steps = [step for step in steps_of(proof) if step[0] == "at" and step[1] < known]
+def uses_in(proof, known, most):
+    """The different steps among so many nodes of a proof that use alls among the first `known` facts."""
+    steps = [step for step in steps_of(proof, most) if step[0] == "at" and step[1] < known]
     return tuple(sorted(set(steps)))
+
+
+def tree_of(question, proof):
+    """The tree of a proof of the question."""
+    known = len(question.facts)
+    steps, nexts = [], []
+    waiting = [(proof, {fact: fact for fact in range(known)}, known, 0)]
+    while len(waiting) > 0:
+        here, numbers, known, above = waiting.pop()
+        node = len(steps)
+        if node > 0:
+            nexts[above].append(node)
+        steps.append(renumbered(here.step, numbers))
+        nexts.append([])
+        for marks, further in reversed(list(zip(here.fresh_marks, here.proofs))):
+            more = {mark: known + at for at, mark in enumerate(marks)}
+            waiting.append((further, {**numbers, **more}, known + len(marks), node))
+    return tuple([node_of(step, tuple(named)) for step, named in zip(steps, nexts)])

@@ -1,33 +1,22 @@
 """A search for a tree: the facts on a way, the steps that add them, and going back when the way is closed.
 
-A proof is a tuple (step, number, proofs): a node of a tree with the numbers of facts as they were in the search,
-the number of the first fact that it adds, and for each next node a pair of how many facts it adds there and its
-proof.
+Each fact has a mark, which is the same on all ways to which the same steps lead; those of the question have their
+numbers as marks. A proof is made of steps with marks in the place of numbers, so it holds wherever its grounds are.
 """
 
 from lentcells.decide.bounds import Bounds
+from lentcells.decide.proofs import Proof, renumbered
+from lentcells.decide.shown import Shown
 from lentcells.solve.points import said_by
 from lentcells.solve.steps import added_by, cases_of, is_not_of, names_made, parts_of
 
 LETTERS = "pqrstuvwxyzabcdefghijklmno"
 
 
-def words_for(frame):
+def all_words_for(frame):
     """More fresh names than a search can need: a frame has at most 36 names, and a question 16 new positions."""
     words = [*LETTERS, *[one + other for one in LETTERS[:2] for other in LETTERS]]
     return [word for word in words if frame.is_fresh(word)]
-
-
-def needs_of(step):
-    """The numbers of the facts, and the names, on which a step hangs."""
-    kind = step[0]
-    if kind == "ring":
-        return [fact for fact, way in step[1]]
-    if kind == "apart":
-        return [step[1][0], step[2][0]]
-    if kind == "at":
-        return [step[1], *[word for word, number in step[2]]]
-    return [step[2]] if kind in ("same", "outside") else [step[1]]
 
 
 def is_of_positions(claim):
@@ -44,52 +33,75 @@ def role_of(fact):
     return "at" if fact[0] == "all" else ""
 
 
+class Marks:
+    """The marks of facts, and the new names of alls: the same ones for the same steps."""
+
+    def __init__(self, question):
+        self._known = len(question.facts)
+        self._marks = {}
+        self._words = all_words_for(question.frame)
+        self._names = {}
+
+    def marks_of(self, step, branches):
+        """The marks of the facts that a step, which is told by marks, adds for each of its next ones."""
+        return tuple([tuple([self._mark((step, branch, at)) for at in range(len(facts))])
+                      for branch, facts in enumerate(branches)])
+
+    def _mark(self, key):
+        return self._marks.setdefault(key, self._known + len(self._marks))
+
+    def words_for(self, mark, many):
+        """So many new names for the not of an all with this mark."""
+        if mark not in self._names:
+            first = len([word for words in self._names.values() for word in words])
+            self._names[mark] = tuple(self._words[first:first + many])
+        return self._names[mark]
+
+
 class Turn:
     """A step on the way, and what was shown for those of its next nodes that were looked at."""
 
-    def __init__(self, step, branches, number, marks):
+    def __init__(self, done, step, branches, fresh_marks, marks):
+        self.done = done
         self.step = step
         self.branches = branches
-        self.number = number
+        self.fresh_marks = fresh_marks
         self.marks = marks
         self.proofs = []
-        self.grounds = {need: True for need in needs_of(step)}
 
     def branch(self):
         """The facts that are added for the next node that is looked at."""
         return self.branches[len(self.proofs)]
 
+    def branch_marks(self):
+        """The marks of these facts."""
+        return self.fresh_marks[len(self.proofs)]
+
     def has_branch(self):
         """Whether a next node is left to look at."""
         return len(self.proofs) < len(self.branches)
 
-    def is_needed(self, needed):
+    def is_needed(self, proof):
         """Whether what was shown for the next node hangs on what the step adds there."""
-        if any([name in needed for name in names_made(self.step)]):
-            return True
-        return any([self.number + more in needed for more in range(len(self.branch()))])
-
-    def take(self, proof, needed):
-        """Keep what was shown for the next node."""
-        for need in needed:
-            if need not in names_made(self.step) and (isinstance(need, str) or need < self.number):
-                self.grounds[need] = True
-        self.proofs.append((len(self.branch()), proof))
+        return any([need in proof.grounds for need in (*names_made(self.step), *self.branch_marks())])
 
     def whole(self):
         """The proof of the step."""
-        return (self.step, self.number, tuple(self.proofs))
+        return Proof(self.step, self.fresh_marks, tuple(self.proofs))
 
 
 class Search:
     """The facts on the way, and the differences that their atoms say.
 
     Only those facts of the question are looked at that are keys of the dict `chosen`. An eager search does what opens
-    no real cases also where nothing asks for it, so that it is done once, ahead of the cases in which it is needed.
+    no real cases also where nothing asks for it, so that it is done once, ahead of the cases in which it is needed. One
+    that keeps proofs for other ways is over sooner, but its proof can be greater.
     """
 
-    def __init__(self, question, chosen, eager):
+    def __init__(self, question, chosen, eager, keeping):
         self.eager = eager
+        self.backs = 0
+        self._keeping = keeping
         self.base = question.frame
         self.seats = [term for term in question.members if term[0] not in question.fresh]
         self.told = []
@@ -99,19 +111,20 @@ class Search:
         self.worths = Bounds()
         self.turns = []
         self.proof = None
-        self.grounds = {}
-        self._words = words_for(question.frame)
+        self._marks_by_number = []
+        self._marks = Marks(question)
+        self._shown = Shown(question)
         self._closing = None
         self._left_out = {fact: True for fact in range(len(question.facts)) if fact not in chosen}
-        self._absorb(question.facts)
+        self._absorb(question.facts, list(range(len(question.facts))))
 
     def is_closed(self):
         """Whether what is known on the way can't be true."""
         return self._closing is not None
 
-    def _absorb(self, claims):
+    def _absorb(self, claims, marks):
         # All that needs no cases is added at once: unlike cases it makes the search smaller, never greater.
-        self.told.extend(claims)
+        self._tell(claims, marks)
         while len(self.roles) < len(self.told) and not self.is_closed():
             number = len(self.roles)
             if number in self._left_out:
@@ -119,29 +132,39 @@ class Search:
             else:
                 self._take_in(number, self.told[number])
 
+    def _tell(self, claims, marks):
+        self.told.extend(claims)
+        self._marks_by_number.extend(marks)
+        self._shown.tell(marks)
+
     def _take_in(self, number, fact):
         self.roles.append(role_of(fact))
         self._say(number, fact)
         for place in range(len(parts_of(fact))):
             self._add(("part", number, place))
         if self.roles[number] == "new":
-            many = len(self.made)
-            self._add(("new", number, tuple(self._words[many:many + len(fact[1][1])])))
+            self._add(("new", number, self._marks.words_for(self._marks_by_number[number], len(fact[1][1]))))
+        if not self.is_closed():
+            self._closing = self._shown.closing(self._marks_by_number[number], self.made)
 
     def _say(self, number, fact):
-        said = said_by(fact)
-        for way, difference in enumerate(said):
+        for way, difference in enumerate(said_by(fact)):
             bounds = self.spans if is_of_positions(fact) else self.worths
             ring = bounds.take(difference, (number, way))
             if ring is not None:
-                self._closing = ("ring", tuple(ring))
+                self._closing = Proof(renumbered(("ring", tuple(ring)), self._marks_by_number), (), ())
                 return
 
+    def _turn_of(self, step, marks):
+        branches = added_by(self.base, self.told, self.made, step)
+        marked = renumbered(step, self._marks_by_number)
+        return Turn(step, marked, branches, self._marks.marks_of(marked, branches), marks)
+
     def _add(self, step):
-        turn = Turn(step, added_by(self.base, self.told, self.made, step), len(self.told), None)
+        turn = self._turn_of(step, None)
         self.turns.append(turn)
         self.made.extend(names_made(step))
-        self.told.extend(turn.branch())
+        self._tell(turn.branch(), turn.branch_marks())
 
     def can_do(self, step):
         """Whether there is such a step here."""
@@ -149,40 +172,43 @@ class Search:
 
     def do(self, step):
         """Go one step on."""
-        branches = added_by(self.base, self.told, self.made, step)
-        if len(branches) == 0:
-            self._closing = step
+        turn = self._turn_of(step, (len(self.told), len(self.made), self.spans.mark(), self.worths.mark()))
+        if not turn.has_branch():
+            self._closing = turn.whole()
             return
         if step[0] == "cases":
             self.roles[step[1]] = ""
-        marks = (len(self.made), self.spans.mark(), self.worths.mark())
-        self.turns.append(Turn(step, branches, len(self.told), marks))
-        self._absorb(branches[0])
+        self.turns.append(turn)
+        self._absorb(turn.branch(), turn.branch_marks())
 
     def go_back(self):
         """Leave the way that is closed for a case that is left; False if there is none, and `proof` is whole."""
-        proof = (self._closing, len(self.told), ())
-        needed = {need: True for need in needs_of(self._closing)}
+        proof = self._closing
         self._closing = None
+        self.backs += 1
         while len(self.turns) > 0:
             turn = self.turns.pop()
-            if turn.is_needed(needed):
-                turn.take(proof, needed)
+            if turn.is_needed(proof):
+                turn.proofs.append(proof)
                 if turn.has_branch():
                     self._look_at(turn)
                     return True
-                proof, needed = turn.whole(), turn.grounds
-            if turn.step[0] == "cases":
-                self.roles[turn.step[1]] = "cases"
-        self.proof, self.grounds = proof, needed
+                proof = turn.whole()
+                if self._keeping:
+                    self._shown.keep(proof)
+            if turn.done[0] == "cases":
+                self.roles[turn.done[1]] = "cases"
+        self.proof = proof
         return False
 
     def _look_at(self, turn):
-        many, spans, worths = turn.marks
+        known, many, spans, worths = turn.marks
         self.turns.append(turn)
-        del self.told[turn.number:]
-        del self.roles[turn.number:]
+        self._shown.forget(self._marks_by_number[known:])
+        del self._marks_by_number[known:]
+        del self.told[known:]
+        del self.roles[known:]
         del self.made[many:]
         self.spans.back_to(spans)
         self.worths.back_to(worths)
-        self._absorb(turn.branch())
+        self._absorb(turn.branch(), turn.branch_marks())
