@@ -212,6 +212,41 @@ class LanguageTest(unittest.TestCase):
                          if isinstance(node, ast.Call) and isinstance(node.func, ast.Attribute) and
                          node.func.attr not in own and node.func.attr not in METHODS)
 
+    def test_l15_tables_are_only_read(self):
+        tables = {target.id for path, text, tree in self.files for node in tree.body if isinstance(node, ast.Assign)
+                  for target in node.targets if isinstance(node.value, (ast.Dict, ast.List))}
+        for path, text, tree in self.files:
+            above = parents_of(tree)
+            for node in ast.walk(tree):
+                if isinstance(node, ast.Name) and node.id in tables and isinstance(node.ctx, ast.Load):
+                    holder = above[node]
+                    read = (isinstance(holder, ast.Subscript) and holder.value is node or
+                            isinstance(holder, ast.Compare) and node in holder.comparators or
+                            isinstance(holder, ast.Attribute) and holder.attr in ("get", *VIEWS) or
+                            called(holder) in ("len", "list", "dict", "tuple", "sorted") or
+                            isinstance(holder, (ast.For, ast.comprehension)) and holder.iter is node)
+                    self.assertTrue(read, (path, node.lineno))
+
+    def test_l5_getitem_and_iter(self):
+        for path, text, tree in self.files:
+            for owner in [node for node in tree.body if isinstance(node, ast.ClassDef)]:
+                methods = {node.name: node for node in owner.body if isinstance(node, ast.FunctionDef)}
+                if "__iter__" in methods:
+                    body = methods["__iter__"].body
+                    self.assertEqual(1, len(body), path)
+                    self.assertEqual("iter", called(body[0].value), path)
+                    self.assertIsInstance(body[0].value.args[0], ast.Attribute, path)
+                self.assertTrue("__getitem__" not in methods or "__iter__" in methods, path)
+            self.none_of((path, word) for word in ("(type)", "Meta", "metaclass=") if word in text)
+
+    def test_l5_properties_and_operators_store_nothing(self):
+        for path, text, tree in self.files:
+            for node in ast.walk(tree):
+                if isinstance(node, ast.FunctionDef) and (node.decorator_list or node.name in DUNDERS[1:]):
+                    stored = [inner for inner in ast.walk(node) if isinstance(inner, (ast.Attribute, ast.Subscript)) and
+                              isinstance(inner.ctx, (ast.Store, ast.Del))]
+                    self.none_of((path, inner.lineno) for inner in stored)
+
     def test_l20_is(self):
         for path, text, tree in self.files:
             for node in [node for node in ast.walk(tree) if isinstance(node, ast.Compare)]:

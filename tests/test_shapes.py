@@ -123,6 +123,8 @@ class ShapesTest(unittest.TestCase):
     def test_one_reaches_into_the_other(self):
         rows = (LEND_R, ("lend", "s", "r"), ("while", TRUE, ()), USE_S, USE_R)
         self.assertEqual(((("r", "a"), ("s", "a")),), self.of(*rows))
+        rows = (("lend", "s", "a"), ("lend", "r", "s"), ("while", TRUE, ()), USE_R, USE_S)
+        self.assertEqual(((("r", "a"), ("s", "a")),), self.of(*rows))
 
     def test_looks_of_one_parameter(self):
         looks = {**HEADING, "loans": (("look", "r", "n"), ("look", "s", "n"))}

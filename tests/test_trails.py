@@ -226,6 +226,10 @@ class TrailTest(unittest.TestCase):
                     state = behind(made, called, row, state)
                     self.assertEqual((state, tuple(faults)), (trail.facts, trail.faults))
                 self.assertEqual(Trail(made, called, walk), trail)
+                while len(trail) > 0:
+                    trail.undo(many=min(len(trail), maker.random.choice((1, 2, 3))))
+                    again = Trail(made, called, trail.walk)
+                    self.assertEqual((again.facts, again.faults, again.nexts), (trail.facts, trail.faults, trail.nexts))
 
 
 if __name__ == "__main__":

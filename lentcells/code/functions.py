@@ -20,11 +20,10 @@ WORDS_WITH_WAS = 4
 
 
 def is_told(value, full_words):
-    """Whether the value is a tuple of a way and names, with so many words for a full array."""
+    """Whether the value is a tuple of a way and more, with so many members for a full array."""
     if not isinstance(value, tuple) or len(value) == 0 or value[0] not in ("full", "look"):
         return False
-    words = full_words if value[0] == "full" else WORDS
-    return len(value) == words and all([is_name(word) for word in value[1:]])
+    return len(value) == (full_words if value[0] == "full" else WORDS)
 
 
 def are_told(value, full_words, most):
@@ -226,7 +225,6 @@ class Function:
 
     def while_of(self, loop):
         """The number of the row of a loop."""
-        self._check_loop(loop)
         return self._layout.loops[loop]
 
     def _check_loop(self, loop):
@@ -235,7 +233,6 @@ class Function:
 
     def ways_behind(self, number):
         """What comes behind a row: for a condition first if it is true and then if it is false."""
-        self._check_number(number)
         return self._layout.ways[number]
 
     def way_of(self, array):
