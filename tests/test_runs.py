@@ -7,6 +7,7 @@ from lentcells.code.functions import Function
 from lentcells.code.programs import Program
 from lentcells.errors import (
     InvalidNumber, InvalidOperation, InvalidProgram, InvalidSituation, NothingToUndo, UnknownName)
+from lentcells.loans.tables import unsound
 from lentcells.runs.runs import Run
 from lentcells.world.situations import Situation
 from making import BOTH, FILL, OUTER, SHARED, TRUE, TWICE, Maker, one_function
@@ -526,6 +527,24 @@ class PlainTest(unittest.TestCase):
         self.assertEqual(back, run.advance_on(most=back))
         self.assertEqual((run, trail, now(run)), (twin, twin.trail, now(twin)))
         return how
+
+    def test_sound_programs_have_no_faults_of_loans(self):
+        # [5.5], and look parameters stay as they were.
+        steps = 0
+        for seed in range(200, 420):
+            maker = Maker(seed)
+            made = maker.program(maker.random.choice((1, 2)), maker.random.choice((4, 8, 16)))
+            if unsound(made) == ():
+                for copying, called in itertools.product((False, True), made.names):
+                    begin = maker.situation(made[called].start_frame)
+                    run = Run(made, called, begin, copying=copying)
+                    steps += run.advance_on(most=200)
+                    self.assertIn(None if run.fault is None else run.fault[0], (None, "outside"))
+                    if run.is_done():
+                        looks = [told[1] for told in made[called].arrays if told[0] == "look"]
+                        self.assertEqual([begin.rows[array] for array in looks],
+                                         [run.situation.rows[array] for array in looks])
+        self.assertGreater(steps, 500)
 
     def test_sound_programs_run_alike(self):
         # [0.24] and [5.5], for programs without faults of loans.

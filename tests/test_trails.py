@@ -1,5 +1,6 @@
 """Trails: walks that grow, and walks to rows, facts and faults."""
 
+import itertools
 import unittest
 
 from lentcells.errors import InvalidNumber, InvalidOperation, InvalidProgram, NothingToUndo, TooMany, UnknownName
@@ -211,6 +212,51 @@ class TrailTest(unittest.TestCase):
         for value in ((1,), (0, 5), (0, 1, 5), [0], (True,)):
             with self.assertRaises(InvalidOperation):
                 Trail(LENT, "f", value)
+
+    def test_loans_of_one_parameter(self):
+        # [4.8], and that a full argument is of another parameter than each other one.
+        pairs = calls = 0
+        for seed in range(250):
+            maker = Maker(seed)
+            made = maker.program(2, 14)
+            for function in made:
+                trail = Trail(made, function.called)
+                for row in maker.walk(made, function.called, 25):
+                    calls += self.check_arguments(made, function, row, trail.facts)
+                    if trail.go(row):
+                        break
+                    pairs += self.check_loans(function, trail.facts)
+        self.assertGreater(min(pairs, calls), 50)
+
+    def check_loans(self, function, facts):
+        parameters = [told[1] for told in function.arrays]
+        good = [told[1] for told in function.loans if ("held", told[1]) in facts and ("ended", told[1]) not in facts]
+        pairs = [(one, other) for one, other in itertools.combinations(good, 2)
+                 if any(("into", one, word) in facts and ("into", other, word) in facts for word in parameters)]
+        for one, other in pairs:
+            looks = function.way_of(one) == function.way_of(other) == "look"
+            self.assertTrue(looks or ("into", one, other) in facts or ("into", other, one) in facts)
+        return len(pairs)
+
+    def check_arguments(self, made, function, row, facts):
+        called = function.row(row)
+        if called[0] != "call" or faults_of(made, function.called, row, facts):
+            return 0
+        parameters = [told[1] for told in function.arrays]
+        ways = [told[0] for told in made[called[1]].arrays]
+        roots = [[word for word in parameters if word == array or ("into", array, word) in facts] for array in called[2]]
+        self.assertTrue(all(len(found) == 1 for found in roots))
+        for (one, way), (other, other_way) in itertools.combinations(zip(roots, ways), 2):
+            self.assertTrue(one != other or (way, other_way) == ("look", "look"))
+        return 1
+
+    def test_what_is_false(self):
+        # [4.10]: a loan need not end with the one from which it was lent, and a function that only looks can have faults.
+        made = program(("lend", "r", "a"), ("lend", "t", "r"), ("if", ("val", "<", ("a", "", 0, 0), ZERO), (), ()))
+        facts = Trail(made, "f", (0, 1, 2)).facts
+        self.assertEqual((True, False), (("ended", "r") in facts, ("ended", "t") in facts))
+        looking = program(("if", ("val", "<", ("t", "", 0, 0), ZERO), (), ()))
+        self.assertEqual((0,), faulty_walk(looking, "f"))
 
     def test_beside_facts_row_by_row(self):
         for seed in range(40, 60):

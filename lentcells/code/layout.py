@@ -16,9 +16,9 @@ class Layout:
         self.loops = []
         self.inside = []
         self.ways = []
-        self._lay(rows, len(self.flat), None)
+        self._number_rows(rows, len(self.flat), None)
 
-    def _lay(self, rows, behind, loop):
+    def _number_rows(self, rows, behind, loop):
         for at, row in enumerate(rows):
             number = len(self.inside)
             after = behind if at == len(rows) - 1 else number + len(rows_in((row,)))
@@ -26,10 +26,10 @@ class Layout:
             self.ways.append(ways_of(row, number, after))
             if row[0] == "while":
                 self.loops.append(number)
-                self._lay(row[2], number, len(self.loops) - 1)
+                self._number_rows(row[2], number, len(self.loops) - 1)
             elif row[0] == "if":
-                self._lay(row[2], after, loop)
-                self._lay(row[3], after, loop)
+                self._number_rows(row[2], after, loop)
+                self._number_rows(row[3], after, loop)
 
 
 def ways_of(row, number, after):

@@ -124,16 +124,16 @@ class Choosing:
         found = []
         for reason in self._soft:
             if reason[0] == "same":
-                found.extend(self._same_steps(reason[1], reason[2], reason[3]))
+                found.extend(self._steps_for_same(reason[1], reason[2], reason[3]))
             else:
-                found.extend(self._outside_steps(reason[1], reason[2]))
+                found.extend(self._steps_for_outside(reason[1], reason[2]))
         return found
 
-    def _same_steps(self, array, one, other):
+    def _steps_for_same(self, array, one, other):
         facts = [("pos", "==", one, other), ("pos", "==", other, one)]
         return self._steps_by("same", array, facts, (below(one, other), below(other, one)), (one, other))
 
-    def _outside_steps(self, array, term):
+    def _steps_for_outside(self, array, term):
         length = self._search.base.length_of(array)
         fact = below(term, ("", 0))
         if not self.sketch.holds(fact):

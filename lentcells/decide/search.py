@@ -205,10 +205,10 @@ class Search:
         known, many, spans, worths = turn.marks
         self.turns.append(turn)
         self._shown.forget(self._marks_by_number[known:])
-        del self._marks_by_number[known:]
-        del self.told[known:]
-        del self.roles[known:]
-        del self.made[many:]
+        self._marks_by_number = self._marks_by_number[:known]
+        self.told = self.told[:known]
+        self.roles = self.roles[:known]
+        self.made = self.made[:many]
         self.spans.back_to(spans)
         self.worths.back_to(worths)
         self._absorb(turn.branch(), turn.branch_marks())

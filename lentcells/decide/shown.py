@@ -23,7 +23,7 @@ class Shown:
     def forget(self, marks):
         """Facts with these marks are there no more."""
         for mark in marks:
-            del self._there[mark]
+            self._there.pop(mark)
 
     def keep(self, proof):
         """Keep a proof, if it is one that can be of use again."""

@@ -203,7 +203,8 @@ class Run:
             done = self._history.pop()
             for spot, row in reversed(list(done.changed)):
                 self._rows[spot] = row
-            del self._rows[done.many:]
+            if len(self._rows) > done.many:
+                self._rows = self._rows[:done.many]
             self._top = done.level
             gone.append(done.pair)
         self._rest()
