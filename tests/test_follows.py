@@ -200,6 +200,19 @@ class FollowsTest(unittest.TestCase):
         self.check(question, True)
         self.check(question.without_given(2), False)
 
+    def test_trees_stay_small_where_cells_and_positions_are_apart(self):
+        # Five cells have unlike contents, so their positions are unlike, too: more than there are.
+        words = ("i", "j", "h", "l", "m")
+        frame = Frame((("a", "n"),), words, ())
+        apart = tuple(("not", val("==", ("a", one, 0, 0), ("a", other, 0, 0)))
+                      for one, other in itertools.combinations(words, 2))
+        inside = tuple(claim for word in words
+                       for claim in (pos("<=", ("", 0), (word, 0)), pos("<", (word, 0), ("n", 0))))
+        question = Question(frame, (*apart, *inside, pos("<", ("n", 0), ("", 5))), FALSE)
+        self.check(question, True)
+        self.check(question.without_given(4), False)
+        self.check(question.without_given(len(question) - 1), False)
+
     def test_many_members_without_many_orders(self):
         frame = Frame((("a", "n"), ("b", "n")), ("i", "j", "h", "l", "m", "o"), ("x",))
         words = ("i", "j", "h", "l", "m", "o")

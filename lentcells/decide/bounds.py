@@ -30,14 +30,17 @@ class Bounds:
         if one == other and most < 0:
             return [reason]
         if self._levels[one] > self._levels[other] + most:
-            ring = self._lower(one, other, most, reason)
+            lowered, ring = self._lowered(one, other, most, reason)
             if ring is not None:
                 return ring
+            for point, level in lowered.items():
+                self._levels[point] = level
         self._kept.append(difference)
         self._above.setdefault(other, []).append((one, most, reason))
         return None
 
-    def _lower(self, one, other, most, reason):
+    def _lowered(self, one, other, most, reason):
+        # The pair of the levels that are to be lowered and None, or of None and a ring.
         lowered = {one: self._levels[other] + most}
         back = {}
         waiting = [one]
@@ -50,12 +53,10 @@ class Bounds:
                 if level < lowered.get(above, self._levels[above]):
                     back[above] = (point, why)
                     if above == other:
-                        return ring_back(back, one, other, reason)
+                        return None, ring_back(back, one, other, reason)
                     lowered[above] = level
                     waiting.append(above)
-        for point, level in lowered.items():
-            self._levels[point] = level
-        return None
+        return lowered, None
 
     def mark(self):
         """What `back_to` needs to come back to the differences and levels of now."""
@@ -72,14 +73,27 @@ class Bounds:
             self._above[difference[1]].pop()
         self._levels = {point: level for point, level in levels.items()}
 
+    def take_all(self, differences):
+        """Take differences until one would close a ring; whether none does."""
+        for difference in differences:
+            if self.take(difference, None) is not None:
+                return False
+        return True
+
     def clash(self, differences):
         """Whether these differences, all of them together, would close a ring."""
+        if len(differences) == 0:
+            return False
         mark = self.mark()
-        closed = False
-        for difference in differences:
-            closed = closed or self.take(difference, None) is not None
+        fits = self.take_all(differences)
         self.back_to(mark)
-        return closed
+        return not fits
+
+    def fits(self, difference):
+        """Whether the levels fit a difference."""
+        one, other, most = difference
+        start = self._levels[""]
+        return self._levels.get(one, start) <= self._levels.get(other, start) + most
 
     def fit(self):
         """The dict from all points to integers, 0 for the empty name, that fit."""

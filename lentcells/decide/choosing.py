@@ -1,6 +1,6 @@
 """Which step a search does next: one that opens as few cases as possible, where its sketch breaks something."""
 
-from lentcells.decide.agree import soft_pairs, soft_reasons, soft_ring
+from lentcells.decide.agree import Soft, is_unlike, soft_pairs
 from lentcells.decide.search import is_of_positions
 from lentcells.decide.sketch import Sketch, known_spots, numbers_for
 from lentcells.logic.forms import atoms_in
@@ -24,23 +24,32 @@ def literals_in(claim):
     return [literal for part in parts_of(claim) for literal in literals_in(part)]
 
 
+def differences_in(literals, positions):
+    """The differences that those of the literals say that are of positions, or those that are of values."""
+    chosen = [claim for claim in literals if is_of_positions(claim) == positions]
+    return [difference for claim in chosen for difference in said_by(claim)]
+
+
 def is_clash(search, literals):
-    """Whether differences that are known close a ring with these atoms."""
-    for bounds, positions in ((search.spans, True), (search.worths, False)):
-        chosen = [claim for claim in literals if is_of_positions(claim) == positions]
-        if len(chosen) > 0 and bounds.clash([difference for claim in chosen for difference in said_by(claim)]):
-            return True
-    return False
+    """Whether differences that are known close a ring with these literals."""
+    if search.spans.clash(differences_in(literals, True)):
+        return True
+    return search.worths.clash(differences_in(literals, False))
 
 
 def weight(search, claim):
-    """In how many ways a claim can be true, as far as single atoms tell it."""
+    """In how many ways a claim can be true, as far as single literals tell it."""
     cases = cases_of(claim)
     if cases is not None:
         return sum([weight(search, case) for case in cases])
     if is_clash(search, literals_in(claim)):
         return 0
     return min([1] + [weight(search, part) for part in parts_of(claim)])
+
+
+def cells_in(claim):
+    """The cells that an atom, or a not of one, reads."""
+    return [term[:3] for atom in atoms_in(claim) for term in atom[2:] if len(term) == 4]
 
 
 def cells_at(body, own, terms):
@@ -58,14 +67,19 @@ class Choosing:
         self._done = [turn.done for turn in search.turns]
         self._used = {step[1:]: True for step in self._done if step[0] == "at"}
         frame = search.base
-        numbers = numbers_for(frame, search.made, search.spans.fit())
-        cells = search.worths.cells()
+        apart = [(number, fact) for number, fact in self.numbered("cases") if is_unlike(fact)]
+        worths_apart = [pair for pair in apart if not is_of_positions(pair[1])]
+        spans, worths = Soft(search.spans), Soft(search.worths)
+        spans.keep_apart([pair for pair in apart if is_of_positions(pair[1])])
+        if search.spreading:
+            spans.spread([*[(word, 0) for word in search.made], *search.seats])
+        numbers = numbers_for(frame, search.made, spans.fit())
+        cells = sorted(set(search.worths.cells() + [cell for number, fact in worths_apart for cell in cells_in(fact)]))
         self._cells = {cell: True for cell in cells}
-        mark = search.worths.mark()
-        ring = soft_ring(search.worths, soft_pairs(frame, numbers, cells))
-        contents = search.worths.fit()
-        search.worths.back_to(mark)
-        self._soft = [] if ring is None else soft_reasons(ring)
+        worths.keep_equal(soft_pairs(frame, numbers, cells))
+        worths.keep_apart(worths_apart)
+        contents = worths.fit()
+        self._soft = spans.failed() + worths.failed()
         self._seats = {}
         for term in [*search.seats, *[(word, 0) for word in search.made]]:
             self._seats.setdefault(numbers[term[0]] + term[1], []).append(term)
@@ -87,7 +101,7 @@ class Choosing:
                 many = weight(self._search, fact)
                 if many <= 1:
                     return [(many, ("cases", number))]
-                if not is_true:
+                if not is_true and not is_unlike(fact):
                     found.append((many, ("cases", number)))
         return found
 
@@ -116,8 +130,11 @@ class Choosing:
         return [(one, other) for one in self._seats[at[0]] for other in self._seats[at[1]]]
 
     def _weight_at(self, number, terms):
+        return weight(self._search, self._used_at(number, terms))
+
+    def _used_at(self, number, terms):
         guard, body = opened_all(self._search.base, self._search.told[number], terms)
-        return weight(self._search, ("or", (("not", guard), body)))
+        return ("or", (("not", guard), body))
 
     def partings(self):
         """The pairs (weight, step) for what is equal in the sketch, but not known to be."""
@@ -125,6 +142,8 @@ class Choosing:
         for reason in self._soft:
             if reason[0] == "same":
                 found.extend(self._steps_for_same(reason[1], reason[2], reason[3]))
+            elif reason[0] == "unlike":
+                found.append((2, ("cases", reason[1])))
             else:
                 found.extend(self._steps_for_outside(reason[1], reason[2]))
         return found
@@ -148,7 +167,9 @@ class Choosing:
         if len(steps) > 0:
             return [(0, step) for step in steps if step not in self._done][:1]
         many = sum([weight(self._search, claim) for claim in others])
-        return [(many + min([len(self._soft) - 1, 1]), ("apart", *pair))]
+        # Where nothing else is only taken to be equal, the case in which both are equal closes at once.
+        equal = [reason for reason in self._soft if reason[0] != "unlike"]
+        return [(many + min([len(equal) - 1, 1]), ("apart", *pair))]
 
 
 def lightest(pairs):
@@ -162,13 +183,15 @@ def lightest(pairs):
 
 def next_step(choosing):
     """The step that is to be done next, or None if the sketch breaks nothing."""
-    cases = lightest(choosing.cases())
-    if cases is not None and cases[0] <= 1:
-        return cases[1]
-    uses = lightest(choosing.uses())
-    if uses is not None and uses[0] <= 1:
-        return uses[1]
-    found = lightest([pair for pair in (lightest(choosing.partings()), cases) if pair is not None])
+    cases = choosing.cases()
+    found = lightest(cases)
+    if found is not None and found[0] <= 1:
+        return found[1]
+    uses = choosing.uses()
+    use = lightest(uses)
+    if use is not None and use[0] <= 1:
+        return use[1]
+    found = lightest(choosing.partings() + cases)
     if found is None:
-        found = uses
+        found = use
     return None if found is None else found[1]

@@ -10,11 +10,15 @@ from lentcells.world.situations import loose_situation
 MAX_MEMBERS = 16
 MAX_FEW = 1000
 # A proof with more nodes is made anew, so often as long as it gets smaller.
-SMALL = 20
+SMALL = 400
 ROUNDS = 4
-# How often a search for a smaller proof goes back at most, and how many nodes of the greater one are looked at.
+# How often more than there are nodes, and how often at most, a search for a smaller proof goes back.
+MORE_BACKS = 600
 MAX_BACKS = 5000
+# How many nodes of the greater proof are looked at for it.
 MAX_LOOK = 20000
+# How often the first search goes back at most before another one begins.
+FIRST_BACKS = 200
 
 
 def check_size(question):
@@ -57,9 +61,9 @@ def proofs_anew(question, proof):
     chosen = {**{fact: True for fact in range(len(question.frame.lengths))}, **proof.grounds}
     uses = uses_in(proof, len(question.facts), MAX_LOOK)
     found = []
-    for keeping in (True, False):
-        search = Search(question, chosen, True, keeping)
-        run_search(search, uses, MAX_BACKS)
+    for keeping, spreading in ((True, True), (False, True), (False, False)):
+        search = Search(question, chosen, True, keeping, spreading)
+        run_search(search, uses, min([MORE_BACKS + proof.size, MAX_BACKS]))
         if search.proof is not None:
             found.append(search.proof)
     return found
@@ -79,6 +83,21 @@ def smaller_proof(question, proof):
     return proof
 
 
+def decided(question):
+    """A search that is over, and the sketch that breaks nothing, or None."""
+    chosen = {fact: True for fact in range(len(question.facts))}
+    most = FIRST_BACKS
+    # Spreading takes longer for most questions, but is far better for some.
+    spreading = False
+    while True:
+        search = Search(question, chosen, False, True, spreading)
+        sketch = run_search(search, (), most)
+        if sketch is not None or search.proof is not None:
+            return search, sketch
+        spreading = not spreading
+        most = most * 4
+
+
 class Decision:
     """What was found of a question: a proof that it follows, or a situation that breaks it."""
 
@@ -86,10 +105,7 @@ class Decision:
         check_question(question)
         check_size(question)
         self._question = question
-        search = Search(question, {fact: True for fact in range(len(question.facts))}, False, True)
-        sketch = None
-        while search.proof is None and sketch is None:
-            sketch = run_search(search, (), search.backs + MAX_BACKS)
+        search, sketch = decided(question)
         self.proof = search.proof
         self.broken = None if sketch is None else question.small(situation_of(question.frame, sketch))
 

@@ -95,11 +95,13 @@ class Search:
 
     Only those facts of the question are looked at that are keys of the dict `chosen`. An eager search does what opens
     no real cases also where nothing asks for it, so that it is done once, ahead of the cases in which it is needed. One
-    that keeps proofs for other ways is over sooner, but its proof can be greater.
+    that keeps proofs for other ways is over sooner, but its proof can be greater. One that is spreading looks at
+    situations in which few terms are equal.
     """
 
-    def __init__(self, question, chosen, eager, keeping):
+    def __init__(self, question, chosen, eager, keeping, spreading):
         self.eager = eager
+        self.spreading = spreading
         self.backs = 0
         self._keeping = keeping
         self.base = question.frame

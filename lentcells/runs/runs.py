@@ -165,7 +165,8 @@ class Run:
         back = []
         if self._copying:
             first = len(self._rows)
-            self._rows.extend([self._rows[spot] for spot in spots])
+            copies = [self._rows[spot] for spot in spots]
+            self._rows.extend(copies)
             own = list(range(first, len(self._rows)))
             back = [pair for pair, told in zip(list(zip(own, spots)), function.arrays) if told[0] == "full"]
             spots = own
