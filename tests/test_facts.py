@@ -293,8 +293,14 @@ class ErrorsTest(unittest.TestCase):
         made = one_function(rows=(("call", "f", (), (), ()),))
         self.assertEqual([(1,), ()], [next_rows(made, "f", row) for row in (0, 1)])
         for value in (True, False):
-            with self.assertRaises(InvalidNumber):
-                next_rows(made, "f", value)
+            for call in self.calls(made, "f", value, ()):
+                with self.assertRaises(InvalidNumber):
+                    call()
+
+    def test_names_of_four_letters_are_no_cells(self):
+        made = one_function(arrays=(("full", "long", "size", "kept"),), loans=(("look", "lent", "size"),), places=("spot",),
+                            rows=(("lend", "lent", "long"), ("move", "spot", ("size", 0))))
+        self.assertEqual([(("look", "long"),), ()], [uses(made, "f", row) for row in (0, 1)])
 
 
 if __name__ == "__main__":

@@ -372,6 +372,20 @@ class RunTest(unittest.TestCase):
                 self.assertEqual(value, caught.exception.number)
             self.assertEqual(states[-2], now(run))
 
+    def test_undo_of_rows_that_are_put_back_into_one_place(self):
+        both = Function("g", arrays=(("full", "p", "k", "wp"), ("full", "q", "k", "wq")),
+                        rows=(("write", "p", "", 0, ("", 8)), ("write", "q", "", 1, ("", 9))))
+        run = run_of(("call", "g", ("a", "a"), (), ()), others=(both,), copying=True, careless=True)
+        states = [now(run)]
+        while not run.is_done():
+            run.advance()
+            states.append(now(run))
+        for many in (1, 2, 3):
+            run.undo(many=many)
+            self.assertEqual(states[3 - many], now(run))
+            self.assertEqual(many, run.advance_on())
+            self.assertEqual(states[3], now(run))
+
     def test_undo_behind_a_fault(self):
         run = Run(SHARED, "twice", ZEROS)
         run.advance()
@@ -407,6 +421,19 @@ class RunTest(unittest.TestCase):
         other.advance_on()
         copying.undo()
         self.assertEqual(((1, 2), (4, 2)), (copying.situation.rows["a"], other.situation.rows["a"]))
+
+    def test_twins_have_places_of_their_own(self):
+        run = run_of(*[("write", "a", "", 0, ("a", "", 0, 1))] * 3)
+        run.advance()
+        twin = run.twin()
+        twin.advance()
+        run.advance()
+        run.advance()
+        twin.advance()
+        self.assertEqual(((4, 2), (4, 2)), (run.situation.rows["a"], twin.situation.rows["a"]))
+        twin.undo(many=3)
+        run.undo()
+        self.assertEqual(((3, 2), (1, 2)), (run.situation.rows["a"], twin.situation.rows["a"]))
 
     def test_places(self):
         run = self.run_both

@@ -111,6 +111,19 @@ class ShapesTest(unittest.TestCase):
         # Neither of both reaches into the other one, so they have no parameter in common; no walk is asked for that.
         self.assertEqual(both, self.of(either, ("while", TRUE, (USE_R, USE_S))))
 
+    def test_all_is_told_in_ascending_order(self):
+        # The loans and parameters stand in descending order in the function.
+        made = one_function(arrays=(("full", "q", "n", "wq"), ("full", "p", "n", "wp")), loans=(("full", "s", "n"), ("full", "r", "n")), notes=((),),
+                            rows=(("if", TRUE, (("lend", "s", "q"), ("lend", "r", "p")), (("lend", "s", "p"), ("lend", "r", "q"))),
+                                  ("while", TRUE, (USE_S, USE_R))))
+        self.assertEqual(("r", "s"), wanted(made, "f", 0))
+        both = (("r", "p"), ("s", "q")), (("r", "q"), ("s", "p"))
+        self.assertEqual(both, shapes(made, "f", 0))
+        self.assertEqual(both, (shape_of(made, "f", 0, (0, 1, 2)), shape_of(made, "f", 0, (0, 3, 4))))
+        either = one_function(arrays=(("full", "q", "n", "wq"), ("full", "p", "n", "wp")), loans=(("full", "r", "n"),), notes=((),),
+                              rows=(("if", TRUE, (("lend", "r", "q"),), (("lend", "r", "p"),)), ("while", TRUE, (USE_R,))))
+        self.assertEqual(((("r", "p"),), (("r", "q"),)), shapes(either, "f", 0))
+
     def test_a_shape_that_no_walk_has(self):
         rows = (("if", TRUE, (("lend", "r", "a"), ("lend", "t", "b")), (("lend", "r", "b"), ("lend", "t", "c"))),
                 ("while", ("val", "<", ("t", "", 0, 0), ("r", "", 0, 0)), ()))
