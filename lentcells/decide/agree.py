@@ -102,11 +102,10 @@ class Soft:
         return found
 
     def failed(self):
-        """The reasons of what can't be as it should be, each once: one of them has to be opened."""
+        """The reasons of what can't be as it should be, each once, what is unlike last: one has to be opened."""
         found = [] if self._equal is None else soft_reasons(self._equal)
         if len(self._unlike) > 0:
             found = found + list(self._unlike[0])
         once = list({reason: True for reason in found})
-        # Cases of what is unlike come last: where two cells are at one position they close at once.
-        last = [reason for reason in once if reason[0] == "unlike"]
-        return [reason for reason in once if reason[0] != "unlike"] + last
+        unlike = [reason for reason in once if reason[0] == "unlike"]
+        return [reason for reason in once if reason[0] != "unlike"] + unlike

@@ -143,7 +143,8 @@ class Choosing:
             if reason[0] == "same":
                 found.extend(self._steps_for_same(reason[1], reason[2], reason[3]))
             elif reason[0] == "unlike":
-                found.append((2, ("cases", reason[1])))
+                # Last, if there is anything else: where two cells are at one position these cases close at once.
+                found.append((2 if len(found) == 0 else 4, ("cases", reason[1])))
             else:
                 found.extend(self._steps_for_outside(reason[1], reason[2]))
         return found
