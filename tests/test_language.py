@@ -31,6 +31,8 @@ TAKERS = ("list", "tuple", "dict", "sorted", "sum", "any", "all", "enumerate", "
 STATEMENTS = (
     ast.Assign, ast.AugAssign, ast.If, ast.While, ast.For, ast.Return, ast.Break, ast.Continue, ast.Pass, ast.Raise,
     ast.Assert, ast.Delete, ast.Try, ast.Expr, ast.FunctionDef, ast.ClassDef, ast.ImportFrom)
+LIBRARY = {"math": ("gcd", "lcm", "isqrt", "comb", "perm", "factorial"), "heapq": ("heappush", "heappop"),
+           "itertools": ("product", "combinations", "permutations")}
 SIZED = ("any", "all", "min", "max", "sum", "sorted")
 
 
@@ -107,6 +109,9 @@ class LanguageTest(unittest.TestCase):
             self.none_of((path, node.lineno) for node in ast.walk(tree) if isinstance(node, ast.Import))
             for node in [node for node in ast.walk(tree) if isinstance(node, ast.ImportFrom)]:
                 self.assertIn(node, tree.body, path)
+                if node.module in LIBRARY:
+                    self.none_of((path, alias.name) for alias in node.names if alias.name not in LIBRARY[node.module])
+                    continue
                 self.assertIn(node.module, defined, path)
                 imported[module].append(node.module)
                 self.none_of((path, alias.name) for alias in node.names if alias.name not in defined[node.module])

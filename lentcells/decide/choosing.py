@@ -3,7 +3,7 @@
 from lentcells.decide.agree import Soft, is_unlike, soft_pairs
 from lentcells.decide.search import is_of_positions
 from lentcells.decide.sketch import Sketch, known_spots, numbers_for
-from lentcells.logic.forms import atoms_in
+from lentcells.logic.forms import cells_in
 from lentcells.logic.putting import opened_all
 from lentcells.solve.points import said_by
 from lentcells.solve.steps import cases_of, parts_of
@@ -47,16 +47,10 @@ def weight(search, claim):
     return min([1] + [weight(search, part) for part in parts_of(claim)])
 
 
-def cells_in(claim):
-    """The cells that an atom, or a not of one, reads."""
-    return [term[:3] for atom in atoms_in(claim) for term in atom[2:] if len(term) == 4]
-
-
 def cells_at(body, own, terms):
     """The cells that a body reads with these terms in the place of its own names."""
     given = {word: term for word, term in zip(own, terms)}
-    read = [term for atom in atoms_in(body) for term in atom[2:] if len(term) == 4]
-    return [(term[0], *given[term[1]]) for term in read if term[1] in given]
+    return [(cell[0], *given[cell[1]]) for cell in cells_in(body) if cell[1] in given]
 
 
 class Choosing:
@@ -96,12 +90,11 @@ class Choosing:
         """The pairs (weight, step) for facts with cases that are false, or that have one case that can be so."""
         found = []
         for number, fact in self.numbered("cases"):
-            is_true = self.sketch.holds(fact)
-            if self._search.eager or not is_true:
+            if not self.sketch.holds(fact):
                 many = weight(self._search, fact)
                 if many <= 1:
                     return [(many, ("cases", number))]
-                if not is_true and not is_unlike(fact):
+                if not is_unlike(fact):
                     found.append((many, ("cases", number)))
         return found
 

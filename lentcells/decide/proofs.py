@@ -50,23 +50,6 @@ class Proof:
             self.words[word] = True
 
 
-def steps_of(proof, most):
-    """The steps of so many nodes of a proof."""
-    found = []
-    waiting = [proof]
-    while len(waiting) > 0 and len(found) < most:
-        here = waiting.pop()
-        found.append(here.step)
-        waiting.extend(here.proofs)
-    return found
-
-
-def uses_in(proof, known, most):
-    """The different steps among so many nodes of a proof that use alls among the first `known` facts."""
-    steps = [step for step in steps_of(proof, most) if step[0] == "at" and step[1] < known]
-    return tuple(sorted(set(steps)))
-
-
 def tree_of(question, proof):
     """The tree of a proof of the question."""
     known = len(question.facts)

@@ -1,7 +1,7 @@
 """A search for a tree: the facts on a way, the steps that add them, and going back when the way is closed.
 
-Each fact has a mark, which is the same on all ways to which the same steps lead; those of the question have their
-numbers as marks. A proof is made of steps with marks in the place of numbers, so it holds wherever its grounds are.
+Each claim that is a fact on some way has a mark; the facts of the question have their numbers as marks. A proof is
+made of steps with marks in the place of numbers, so it holds wherever its grounds are.
 """
 
 from lentcells.decide.bounds import Bounds
@@ -34,21 +34,28 @@ def role_of(fact):
 
 
 class Marks:
-    """The marks of facts, and the new names of alls: the same ones for the same steps."""
+    """The marks of claims, and the new names of alls: the same ones on all ways."""
 
     def __init__(self, question):
-        self._known = len(question.facts)
+        self.claim_at = list(question.facts)
         self._marks = {}
+        # A claim can be nested too deep for a key, so its text stands for it.
+        for mark, fact in enumerate(self.claim_at):
+            self._marks.setdefault(repr(fact), mark)
         self._words = all_words_for(question.frame)
         self._names = {}
 
-    def marks_of(self, step, branches):
-        """The marks of the facts that a step, which is told by marks, adds for each of its next ones."""
-        return tuple([tuple([self._mark((step, branch, at)) for at in range(len(facts))])
-                      for branch, facts in enumerate(branches)])
+    def marks_of(self, branches):
+        """The marks of the facts that a step adds for each of its next ones."""
+        return tuple([tuple([self.mark_of(fact) for fact in facts]) for facts in branches])
 
-    def _mark(self, key):
-        return self._marks.setdefault(key, self._known + len(self._marks))
+    def mark_of(self, claim):
+        """The mark of a claim."""
+        key = repr(claim)
+        if key not in self._marks:
+            self._marks[key] = len(self.claim_at)
+            self.claim_at.append(claim)
+        return self._marks[key]
 
     def words_for(self, mark, many):
         """So many new names for the not of an all with this mark."""
@@ -61,12 +68,14 @@ class Marks:
 class Turn:
     """A step on the way, and what was shown for those of its next nodes that were looked at."""
 
-    def __init__(self, done, step, branches, fresh_marks, marks):
+    def __init__(self, done, step, branches, fresh_marks, back):
         self.done = done
         self.step = step
         self.branches = branches
         self.fresh_marks = fresh_marks
-        self.marks = marks
+        self.back = back
+        # Marks of what is known without the step, which is not needed for their sake.
+        self.there = {}
         self.proofs = []
 
     def branch(self):
@@ -83,7 +92,8 @@ class Turn:
 
     def is_needed(self, proof):
         """Whether what was shown for the next node hangs on what the step adds there."""
-        return any([need in proof.grounds for need in (*names_made(self.step), *self.branch_marks())])
+        marks = [mark for mark in self.branch_marks() if mark not in self.there]
+        return any([need in proof.grounds for need in (*names_made(self.step), *marks)])
 
     def whole(self):
         """The proof of the step."""
@@ -93,17 +103,12 @@ class Turn:
 class Search:
     """The facts on the way, and the differences that their atoms say.
 
-    Only those facts of the question are looked at that are keys of the dict `chosen`. An eager search does what opens
-    no real cases also where nothing asks for it, so that it is done once, ahead of the cases in which it is needed. One
-    that keeps proofs for other ways is over sooner, but its proof can be greater. One that is spreading looks at
-    situations in which few terms are equal.
+    A search that is spreading looks at situations in which few terms are equal.
     """
 
-    def __init__(self, question, chosen, eager, keeping, spreading):
-        self.eager = eager
+    def __init__(self, question, marks, spreading):
         self.spreading = spreading
         self.backs = 0
-        self._keeping = keeping
         self.base = question.frame
         self.seats = [term for term in question.members if term[0] not in question.fresh]
         self.told = []
@@ -114,11 +119,15 @@ class Search:
         self.turns = []
         self.proof = None
         self._marks_by_number = []
-        self._marks = Marks(question)
+        self.number_by_mark = {}
+        self._marks = marks
         self._shown = Shown(question)
         self._closing = None
-        self._left_out = {fact: True for fact in range(len(question.facts)) if fact not in chosen}
         self._absorb(question.facts, list(range(len(question.facts))))
+
+    def mark_at(self, number):
+        """The mark of a fact."""
+        return self._marks_by_number[number]
 
     def is_closed(self):
         """Whether what is known on the way can't be true."""
@@ -129,10 +138,20 @@ class Search:
         self._tell(claims, marks)
         while len(self.roles) < len(self.told) and not self.is_closed():
             number = len(self.roles)
-            if number in self._left_out:
+            mark = self._marks_by_number[number]
+            if self._is_left_out(number) or mark in self.number_by_mark:
                 self.roles.append("")
             else:
+                self.number_by_mark[mark] = number
                 self._take_in(number, self.told[number])
+
+    def _is_left_out(self, number):
+        # A search for a smaller proof leaves facts out.
+        return False
+
+    def _keep(self, proof):
+        # Proofs that are kept for other ways make a search shorter.
+        self._shown.keep(proof)
 
     def _tell(self, claims, marks):
         self.told.extend(claims)
@@ -157,10 +176,12 @@ class Search:
                 self._closing = Proof(renumbered(("ring", tuple(ring)), self._marks_by_number), (), ())
                 return
 
-    def _turn_of(self, step, marks):
+    def _turn_of(self, step, back):
         branches = added_by(self.base, self.told, self.made, step)
-        marked = renumbered(step, self._marks_by_number)
-        return Turn(step, marked, branches, self._marks.marks_of(marked, branches), marks)
+        marks = self._marks.marks_of(branches)
+        turn = Turn(step, renumbered(step, self._marks_by_number), branches, marks, back)
+        turn.there = {mark: True for found in marks for mark in found if self._shown.has(mark)}
+        return turn
 
     def _add(self, step):
         turn = self._turn_of(step, None)
@@ -168,13 +189,27 @@ class Search:
         self.made.extend(names_made(step))
         self._tell(turn.branch(), turn.branch_marks())
 
-    def can_do(self, step):
-        """Whether there is such a step here."""
-        return added_by(self.base, self.told, self.made, step) is not None
+    def _here(self):
+        # What `_back_to` needs to come back to what is known now.
+        return len(self.told), len(self.made), self.spans.mark(), self.worths.mark()
+
+    def _back_to(self, here):
+        known, many, spans, worths = here
+        gone = self._marks_by_number[known:]
+        self._shown.forget(gone)
+        for mark in gone:
+            if self.number_by_mark.get(mark, -1) >= known:
+                self.number_by_mark.pop(mark)
+        self._marks_by_number = self._marks_by_number[:known]
+        self.told = self.told[:known]
+        self.roles = self.roles[:known]
+        self.made = self.made[:many]
+        self.spans.back_to(spans)
+        self.worths.back_to(worths)
 
     def do(self, step):
         """Go one step on."""
-        turn = self._turn_of(step, (len(self.told), len(self.made), self.spans.mark(), self.worths.mark()))
+        turn = self._turn_of(step, self._here())
         if not turn.has_branch():
             self._closing = turn.whole()
             return
@@ -196,21 +231,13 @@ class Search:
                     self._look_at(turn)
                     return True
                 proof = turn.whole()
-                if self._keeping:
-                    self._shown.keep(proof)
+                self._keep(proof)
             if turn.done[0] == "cases":
                 self.roles[turn.done[1]] = "cases"
         self.proof = proof
         return False
 
     def _look_at(self, turn):
-        known, many, spans, worths = turn.marks
         self.turns.append(turn)
-        self._shown.forget(self._marks_by_number[known:])
-        self._marks_by_number = self._marks_by_number[:known]
-        self.told = self.told[:known]
-        self.roles = self.roles[:known]
-        self.made = self.made[:many]
-        self.spans.back_to(spans)
-        self.worths.back_to(worths)
+        self._back_to(turn.back)
         self._absorb(turn.branch(), turn.branch_marks())

@@ -16,14 +16,18 @@ class Shown:
         self._proofs = {}
 
     def tell(self, marks):
-        """Facts with these marks are there."""
+        """Facts with these marks are there, once more."""
         for mark in marks:
-            self._there[mark] = True
+            self._there[mark] = self._there.get(mark, 0) + 1
 
     def forget(self, marks):
-        """Facts with these marks are there no more."""
+        """Facts with these marks are there once less."""
         for mark in marks:
-            self._there.pop(mark)
+            self._there[mark] -= 1
+
+    def has(self, mark):
+        """Whether a fact with this mark is there."""
+        return self._there.get(mark, 0) > 0
 
     def keep(self, proof):
         """Keep a proof, if it is one that can be of use again."""
@@ -45,6 +49,6 @@ class Shown:
             if isinstance(need, str):
                 if need != "" and need not in self._frame and need not in made:
                     return False
-            elif need not in self._there:
+            elif not self.has(need):
                 return False
         return True

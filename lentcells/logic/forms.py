@@ -122,10 +122,14 @@ def position_terms_in(claim):
     return terms
 
 
+def cells_in(claim):
+    """The triples (array, name, shift) of the cells that a claim reads, in the order of its text."""
+    return [term[:3] for atom in atoms_in(claim) for term in atom[2:] if len(term) == 4]
+
+
 def cell_places_in(claim):
     """The position terms at which cells of a claim are read."""
-    values = [term for atom in atoms_in(claim) if atom[0] == "val" for term in atom[2:]]
-    return [term[1:3] for term in values if len(term) == 4]
+    return [cell[1:] for cell in cells_in(claim)]
 
 
 def guard_terms(claim):
