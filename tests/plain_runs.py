@@ -16,10 +16,12 @@ class PlainRun:
     """What a run does: `states` yields what is so ahead of each row, and at the end of the first function.
 
     Such a state is a tuple (function, row, fault, rows, positions, values), with None for function and row at the end.
+    With `marks` there are also tuples ("before" or "after", function, rows, positions, values) of functions that begin
+    and end.
     """
 
-    def __init__(self, program, called, situation, copying, careless):
-        self.program, self.copying, self.careless = program, copying, careless
+    def __init__(self, program, called, situation, copying, careless, marks=False):
+        self.program, self.copying, self.careless, self.marks = program, copying, careless, marks
         function = program[called]
         self.places = [list(situation.rows[told[1]]) for told in function.arrays]
         self.start = (called, list(self.places), [situation.positions[word] for word in function.positions],
@@ -71,6 +73,11 @@ class PlainRun:
                     for array, row in names.items()}
             return (called, at, fault, {**held, **was}, dict(places), dict(amounts))
 
+        def mark(word):
+            return (word, *state(None, None)[:1], *state(None, None)[3:])
+
+        if self.marks:
+            yield mark("before")
         at = 0
         while at < len(rows):
             row, ways = rows[at]
@@ -106,6 +113,8 @@ class PlainRun:
             else:
                 yield from self.call(row, [names[array] for array in row[2]], [place(term) for term in row[3]], given)
             at = ways[0]
+        if self.marks:
+            yield mark("after")
         if first:
             rows = {told[1]: tuple(names[told[1]]) for told in function.arrays}
             yield (None, None, None, {**rows, **was}, {word: places[word] for word in function.positions},

@@ -11,6 +11,9 @@ from lentcells.loans.shapes import shape_of, shapes, wanted
 from lentcells.loans.tables import Table
 from lentcells.loans.trails import faulty_walk, walk_to
 from lentcells.logic.claims import all_between, carried, is_claim, names_of, replaced, used_at
+from lentcells.pieces.kept import is_kept, is_program_kept
+from lentcells.pieces.pieces import pieces
+from lentcells.runs.breaks import outcome, parting
 from lentcells.runs.runs import Run
 from lentcells.solve.differences import differences_of, is_ring, ring, tightest
 from lentcells.solve.questions import Question
@@ -113,6 +116,17 @@ class ExamplesTest(unittest.TestCase):
              (("b", "m"), ("c", "m"), ("r", "m"), ("was", "m")), ("twice",)],
             [str(fill), str(both), both.names, twice.callees, fill.row(1), twice.way_of("r"), fill.end_frame.arrays,
              twice.frame.arrays, both.callers("fill")])
+        self.assertEqual(
+            ["piece of fill from start to 0: 0 rows", "piece of fill from 0 to end: 1 rows",
+             "piece of fill from 0 to 0: 3 rows"], [str(piece) for piece in pieces(both, "fill")])
+        self.assertEqual(
+            (["piece of twice from start to end: 3 rows", "piece of twice from start to end: 4 rows"],
+             {"b": "wb", "c": "c", "r": "wb"}),
+            ([str(piece) for piece in pieces(both, "twice")], pieces(both, "twice")[1].names))
+        self.assertEqual(
+            ([("inside", 3), ("inside", 3)], True, True),
+            ([kind for kind, question in pieces(both, "twice")[1].questions()], is_program_kept(both),
+             is_kept(both, "fill")))
 
     def test_loans(self):
         rows = (("lend", "r", "p"),
@@ -142,6 +156,10 @@ class ExamplesTest(unittest.TestCase):
                          rows=(("lend", "r", "c"), ("call", "two", ("r", "c"), (), ())))
         shared = Program((two, outer))
         zeros = Situation(outer.start_frame, {"c": (0, 0)}, {}, {})
+        self.assertEqual(
+            [("fault", "twice", 1, ("argument", 0), 1), 3, 0],
+            [outcome(shared, "twice", zeros), parting(shared, "twice", zeros),
+             outcome(shared, "twice", zeros, copying=True, careless=True)[1].cell("c", 0)])
         run = Run(shared, "twice", zeros, careless=True)
         self.assertEqual(
             [("twice", 0), ("twice", 1), "two", 0, ("two", 0), 1, "run in two at 1: 3 steps", 1, 2],

@@ -1,8 +1,13 @@
 """Levels of a run: functions that have begun and not ended."""
 
 from lentcells.loans.facts import state_of
-from lentcells.loans.flow import empty_loans, facts_behind, row_faults
+from lentcells.loans.flow import empty_loans, facts_behind, loop_at, noted_loans, row_faults
 from lentcells.world.meaning import Meaning
+
+
+def note_faults(function, loop):
+    """The faults that the notes of a loop can have."""
+    return [(word, loan) for loan in noted_loans(function, loop) for word in ("empty", "ended")]
 
 
 class Level:
@@ -45,9 +50,26 @@ class Level:
         """The dict from the lengths to their integers, by the rows of all places."""
         return {told[2]: len(rows[self.spot_of[told[1]]]) for told in self.function.arrays}
 
+    def first_false(self, rows, claims):
+        """The index of the first claim that is false, by the rows of all places, or None."""
+        meaning = self.meaning(rows)
+        for place, claim in enumerate(claims):
+            if not meaning.holds(claim):
+                return place
+        return None
+
+    def false_note(self, rows):
+        """What `first_break` tells of a note that is false, or None; notes with faults are not looked at."""
+        loop = loop_at(self.function, self.number)
+        if loop is None or any([fault in self.loan_facts for fault in note_faults(self.function, loop)]):
+            return None
+        place = self.first_false(rows, self.function.notes[loop])
+        return None if place is None else ("note", self.function.called, loop, place)
+
     def meaning(self, rows):
-        """What terms and conditions mean, by the rows of all places."""
+        """What terms, conditions and claims mean, by the rows of all places."""
         held = {array: rows[spot] for array, spot in self.spot_of.items() if spot is not None}
+        held = {**held, **self.was_rows}
         numbers = {"": 0, **self.position_of, **self.lengths_by(rows)}
         return Meaning(held, numbers, {"": 0, **self.amount_of})
 

@@ -36,11 +36,13 @@ class Run:
         self._careless = careless
         self._lookup = Lookup(program)
         self._history = []
+        self._events = []
         rows = situation.rows
         self._rows = [rows[told[1]] for told in function.arrays]
         positions = [situation.positions[word] for word in function.positions]
         amounts = [situation.amounts[word] for word in function.amounts]
         self._top = begun(function, None, list(range(len(self._rows))), positions, amounts, self._rows)
+        self._events.append(("before", self._top))
         self._last = self._top
         self._leave_levels()
         self._rest()
@@ -49,6 +51,7 @@ class Run:
         while self._top is not None and self._top.number == len(self._top.function):
             for own, spot in self._top.back:
                 self._put(spot, self._rows[own])
+            self._events.append(("after", self._top))
             self._last = self._top
             self._top = self._top.caller
 
@@ -136,6 +139,7 @@ class Run:
     def _step(self):
         level = self._top
         self._history.append(Done(level, len(self._rows)))
+        self._events = []
         self._top = self._behind(level)
         self._leave_levels()
 
@@ -174,6 +178,7 @@ class Run:
         amounts = [meaning.content(term) for term in row[4]]
         made = begun(function, level, spots, positions, amounts, self._rows)
         made.back = tuple(back)
+        self._events.append(("before", made))
         return made
 
     def advance_on(self, *, most=100):
@@ -196,9 +201,22 @@ class Run:
             raise UnknownName(name)
         return self._top.spot_of[name]
 
+    def false_claim(self):
+        """The first claim of a sharing run that is false now: of a function that began or ended in the last step.
+
+        It is told as by `first_break`. Where a while is next whose notes have no faults, they are looked at, too.
+        """
+        for word, level in self._events:
+            claims = level.function.before if word == "before" else level.function.after
+            place = level.first_false(self._rows, claims)
+            if place is not None:
+                return (word, level.function.called, place)
+        return None if self._top is None else self._top.false_note(self._rows)
+
     def undo(self, *, many=1):
         """Take the last steps back, and return their functions and rows, the last one first."""
         check_undo(many, len(self._history))
+        self._events = []
         gone = []
         for _ in range(many):
             done = self._history.pop()
@@ -217,6 +235,7 @@ class Run:
                    careless=self._careless)
         made._rows = list(self._rows)
         made._history = list(self._history)
+        made._events = list(self._events)
         made._top = self._top
         made._last = self._last
         made._rest()

@@ -1,0 +1,1 @@
+"""Pieces of functions, and kept programs."""

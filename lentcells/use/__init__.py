@@ -1,0 +1,1 @@
+"""Contracts, and greatest choices of claims."""
