@@ -65,7 +65,7 @@ def bound_names(tree):
             yield node.id, node.lineno
         elif isinstance(node, ast.arg):
             yield node.arg, node.lineno
-        elif isinstance(node, (ast.FunctionDef, ast.ClassDef)):
+        elif isinstance(node, (ast.FunctionDef, ast.ClassDef)) or isinstance(node, ast.ExceptHandler) and node.name:
             yield node.name, node.lineno
 
 

@@ -1,0 +1,1 @@
+"""A desk with functions, and claims about them that hold."""
