@@ -15,7 +15,7 @@ class ReadmeTest(unittest.TestCase):
     def test_examples(self):
         with open(README, encoding="utf-8") as file:
             blocks = re.findall(r"```python\n(.*?)```", file.read(), re.DOTALL)
-        self.assertEqual(2, len(blocks))
+        self.assertEqual(3, len(blocks))
         for block in blocks:
             printed = io.StringIO()
             with contextlib.redirect_stdout(printed):

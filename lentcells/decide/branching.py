@@ -9,7 +9,7 @@ from math import isqrt
 PARTS = 64
 FINE = 65536
 WHOLE = 2 ** 20
-MOST_RATE = 2 ** 30
+MOST_RATE = 2 ** 26
 # About how many nodes close a way for which nothing stands to be done, and one that is closed at once.
 LAST = 12
 AT_ONCE = 3

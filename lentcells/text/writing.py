@@ -60,7 +60,7 @@ def row_text(row):
     if word == "keep":
         return f"{row[1]} = {amount_text(row[2])}"
     if word == "write":
-        return f"{amount_text((*row[1:4], 0))} = {amount_text(row[4])}"
+        return f"{row[1]}[{short_text(row[2:4])}] = {amount_text(row[4])}"
     if word == "lend":
         return f"lend {row[1]} = {row[2]}"
     if word == "call":
