@@ -6,6 +6,7 @@ import unittest
 
 from lentcells.base.frames import Frame
 from lentcells.decide.branching import Growth, bits_of
+from lentcells.decide.covers import cover_of, is_covered
 from lentcells.decide.follows import Asker, is_paper, paper
 from lentcells.decide.reach import Reach
 from lentcells.errors import Refused
@@ -49,6 +50,25 @@ def parity(words, side):
         claims.append(("and", tuple(("or", tuple(side(word, not great) for word, great in zip(words, way)))
                                     for way in ways)))
     return Question(Frame((("a", "n"),), tuple(words), ()), tuple(claims), NEVER)
+
+
+def sided(word, at, many):
+    """A position is on one of so many sides: at most 0, 1, 2, .., or at least the last one."""
+    if at == 0:
+        return ("pos", "<=", (word, 0), ("", 0))
+    return ("pos", "<=", ("", at), (word, 0)) if at == many - 1 else ("pos", "==", (word, 0), ("", at))
+
+
+def counted(words, many, by_not):
+    """The sides on which positions are have a sum with the rest 0, and one with the rest 1."""
+    def beside(word, at):
+        others = tuple(sided(word, other, many) for other in range(many) if other != at)
+        return ("not", sided(word, at, many)) if by_not else ("or", others)
+    claims = []
+    for rest in (0, 1):
+        ways = [way for way in itertools.product(range(many), repeat=len(words)) if sum(way) % many != rest]
+        claims.append(("and", tuple(("or", tuple(beside(word, at) for word, at in zip(words, way))) for way in ways)))
+    return Question(Frame((), tuple(words), ()), tuple(claims), NEVER)
 
 
 class SmallPapers(unittest.TestCase):
@@ -99,6 +119,12 @@ class SmallPapers(unittest.TestCase):
         for side in (strict, equal):
             self.check(parity("pqrstu", side))
 
+    def test_several_sides_of_positions(self):
+        self.check(counted("pqrs", 3, True), 1200)
+        self.check(counted("pqrst", 3, True))
+        self.check(counted("pqr", 5, False))
+        self.check(counted("pqr", 6, False))
+
     def test_parities_of_contents(self):
         # There is no way to hold contents apart, so there are as many cases as the ors have parts.
         self.check(parity("pqrst", lambda word, great: (
@@ -132,6 +158,44 @@ class SmallPapers(unittest.TestCase):
         self.assertLessEqual(len(tree), 1000)
 
 
+class CoversTest(unittest.TestCase):
+    """Ors that leave nothing out."""
+
+    def test_beside_numbers(self):
+        rand = random.Random(3)
+        seen = []
+        for _ in range(3000):
+            parts, plain = [], []
+            for _ in range(rand.randint(2, 4)):
+                number = rand.randint(-3, 3)
+                kind = rand.choice(("low", "high", "just"))
+                low, high = ("q", "p", -number), ("p", "q", number)
+                parts.append(("atom", True, {"low": (low,), "high": (high,), "just": (high, low)}[kind]))
+                plain.append((-99 if kind == "high" else number, 99 if kind == "low" else number))
+            first, last = rand.choice((None, rand.randint(-4, 4))), rand.choice((None, rand.randint(-4, 4)))
+            of_positions, points, spans = cover_of(tuple(parts))
+            self.assertTrue(of_positions)
+            if points == ("q", "p"):
+                first, last = None if last is None else -last, None if first is None else -first
+            numbers = range(-20 if first is None else first, 21 if last is None else last + 1)
+            if points == ("q", "p"):
+                plain = [(-high, -low) for low, high in plain]
+            covered = all(any(low <= number <= high for low, high in plain) for number in numbers)
+            if len(numbers) > 0:
+                self.assertEqual(covered, is_covered(first, last, spans), (parts, first, last))
+                seen.append(covered)
+        self.assertTrue(100 < seen.count(True) < len(seen) - 100)
+
+    def test_nothing_to_compare(self):
+        one = ("atom", True, (("p", "q", 1),))
+        for other in (("atom", True, (("p", "r", 1),)), ("atom", False, (("p", "q", 1),)), ("more",)):
+            self.assertIsNone(cover_of((one, other)))
+        self.assertIsNone(cover_of(()))
+        self.assertIsNone(cover_of((one,)))
+        same = ("atom", True, (("p", "p", 1), ("p", "p", -1)))
+        self.assertIsNone(cover_of((same, same)))
+
+
 class ReachTest(unittest.TestCase):
     """Tightest bounds that are kept up to date."""
 
@@ -156,8 +220,9 @@ class ReachTest(unittest.TestCase):
         self.assertEqual([0, 64, 101, 128], [bits_of(many) for many in (1, 2, 3, 4)])
         growth = Growth()
         # Two cases that make one bit each: as many nodes as there are ways.
-        growth.find_rate(128, [[64, 64], [0, None]])
-        self.assertAlmostEqual(2 * growth.nodes_behind([64]), growth.nodes_behind([128]), delta=2)
+        growth.find_rate(128, [[(64, 0), (64, 0)], [(0, 0), (None, 7)]])
+        self.assertAlmostEqual(2 * growth.nodes_behind([(64, 0)]), growth.nodes_behind([(128, 0)]), delta=2)
+        self.assertEqual(growth.nodes_behind([(64, 0)]) + 7, growth.nodes_behind([(64, 0), (None, 7)]))
 
 
 if __name__ == "__main__":

@@ -10,9 +10,8 @@ PARTS = 64
 FINE = 65536
 WHOLE = 2 ** 20
 MOST_RATE = 2 ** 26
-# About how many nodes close a way for which nothing stands to be done, and one that is closed at once.
-LAST = 12
-AT_ONCE = 3
+# About how many nodes there are behind a way for which nothing stands to be done.
+LAST = 50
 
 
 def bits_of(many):
@@ -54,16 +53,20 @@ class Growth:
         return high
 
     def find_rate(self, bits, behind):
-        """Take the least rate with which one of several lists of what is left behind cases fits what was ahead."""
+        """Take the least rate with which one of several lists of what is left behind cases fits what was ahead.
+
+        What is left behind a case is a pair: how much stands to be done, None if it is closed at once; and about how
+        many nodes close it then.
+        """
         if self._rate is not None:
             return
-        made = [[bits - left for left in found if left is not None] for found in behind]
+        made = [[bits - left for left, nodes in found if left is not None] for found in behind]
         rates = [self._rate_of(parts) for parts in made if len(parts) > 1]
         if len(rates) > 0:
             self._rate = min(rates)
 
     def nodes_behind(self, found):
-        """About how many nodes there are behind cases that leave so much, None for one that is closed at once."""
+        """About how many nodes there are behind cases that leave so much."""
         rate = 0 if self._rate is None else self._rate
-        nodes = [AT_ONCE * WHOLE if left is None else LAST * self._grown(left, rate) for left in found]
-        return sum(nodes) // WHOLE
+        grown = sum([LAST * self._grown(left, rate) for left, nodes in found if left is not None])
+        return grown // WHOLE + sum([nodes for left, nodes in found if left is None])

@@ -1,9 +1,11 @@
 """Questions decided: by a proof that they follow, or by a situation that breaks them."""
 
 from lentcells.decide.choosing import Choosing, next_step
+from lentcells.decide.ground import Ground
+from lentcells.decide.planning import Plan
 from lentcells.decide.proofs import tree_of
 from lentcells.decide.search import Marks, Search
-from lentcells.decide.smaller import smaller_proof
+from lentcells.decide.smaller import ground_proof, smaller_proof
 from lentcells.errors import TooMany
 from lentcells.solve.questions import check_question
 from lentcells.world.situations import loose_situation
@@ -12,6 +14,8 @@ MAX_MEMBERS = 16
 MAX_FEW = 1000
 # How often the first search goes back at most before another one begins.
 FIRST_BACKS = 200
+# A search by a plan takes so many times fewer steps.
+PER_STEP = 5
 
 
 def check_size(question):
@@ -46,15 +50,21 @@ def run_search(search, most):
 
 
 def decided(question, marks):
-    """A search that is over, and the sketch that breaks nothing, or None."""
+    """A proof of the question, or None, and the sketch that breaks nothing, or None."""
     most = FIRST_BACKS
     # Spreading takes longer for most questions, but is far better for some.
     spreading = False
+    used = {}
     while True:
         search = Search(question, marks, spreading)
         sketch = run_search(search, most)
         if sketch is not None or search.proof is not None:
-            return search, sketch
+            return search.proof, sketch
+        used = {**used, **search.used}
+        # A plan takes longer for each step, but opens far fewer cases where there are many to choose from.
+        proof = ground_proof(question, Ground(question, marks, used, {}), Plan(True, False), most // PER_STEP)
+        if proof is not None:
+            return proof, None
         spreading = not spreading
         most = most * 4
 
@@ -67,8 +77,7 @@ class Decision:
         check_size(question)
         self._question = question
         self._marks = Marks(question)
-        search, sketch = decided(question, self._marks)
-        self.proof = search.proof
+        self.proof, sketch = decided(question, self._marks)
         self.broken = None if sketch is None else question.small(situation_of(question.frame, sketch))
 
     def follows(self):

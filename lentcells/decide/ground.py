@@ -20,16 +20,21 @@ def proofs_in(proof):
     return list(seen)
 
 
-class Ground:
-    """The steps of a proof that a search for a smaller one can take: uses of alls, and terms that are held apart."""
+def ground_of(question, marks, proof):
+    """The ground of a whole proof."""
+    # What the proof does not need is left out, but for the facts that lengths are not negative.
+    first, end = len(question.frame.lengths), len(question.facts)
+    left_out = {fact: True for fact in range(first, end) if fact not in proof.grounds}
+    return Ground(question, marks, {here.step: True for here in proofs_in(proof)}, left_out)
 
-    def __init__(self, question, marks, proof):
-        steps = {here.step: True for here in proofs_in(proof)}
+
+class Ground:
+    """The steps that a search for a small tree can take, by those of proofs: uses of alls, terms to hold apart."""
+
+    def __init__(self, question, marks, steps, left_out):
         self._frame = question.frame
         self.marks = marks
-        # What the proof does not need is left out, but for the facts that lengths are not negative.
-        first, end = len(question.frame.lengths), len(question.facts)
-        self.left_out = {fact: True for fact in range(first, end) if fact not in proof.grounds}
+        self.left_out = left_out
         self.use_steps = sorted([step for step in steps if step[0] == "at"])
         self.apart_steps = sorted([step for step in steps if step[0] == "apart"])
         rings = [fact for step in steps if step[0] == "ring" for fact, way in step[1]]

@@ -4,6 +4,9 @@ from lentcells.decide.branching import Growth, bits_of
 from lentcells.decide.deriving import derived_step, with_derived
 from lentcells.decide.ways import Known, both_ways, closing_nodes, form_of, spare_nodes
 
+# So many steps are looked at closely, those with the fewest ways.
+TRIES = 32
+
 
 class Option:
     """A step that opens cases: the fact that has them, the ways in which they can be true, and the nodes of others."""
@@ -26,6 +29,8 @@ class Plan:
     def __init__(self, looking, last):
         self._looking = looking
         self._last = last
+        # Whether a plan that is the same but for `last` would have gone another way.
+        self.hung_on_last = False
         self._form_by_mark = {}
         self._growth = Growth()
 
@@ -61,10 +66,12 @@ class Plan:
         aparts = aparts_in(search, known)
         if self._looking:
             options.extend(aparts_by(known, options))
+        if len(options) == 0 and len(aparts) > 0 and len(unlike) > 0:
+            self.hung_on_last = True
         for group in (options, aparts, unlike) if self._last else (options, unlike, aparts):
             if len(group) > 0:
                 group = sorted(group, key=lambda option: len(option.ways))
-                return self._cheapest(search, known, left, group) if self._looking else group[0].step
+                return self._cheapest(search, known, left, group[:TRIES]) if self._looking else group[0].step
         return None
 
     def _cheapest(self, search, known, left, options):
@@ -79,26 +86,26 @@ class Plan:
 
 
 def bits_behind(search, known, left, option):
-    """How much stands to be done behind each way of an option, or None for one that is closed at once."""
+    """The pairs of what is left behind each way of an option."""
     rest = [form for number, form, ways in left if number != option.number]
     return [bits_left(search, known, rest, way) for way in option.ways]
 
 
 def bits_left(search, known, forms, way):
-    """How much stands to be done behind a way, or None if it is closed at once."""
+    """How much stands to be done behind a way, and 0; or None, and about how many nodes close it then."""
     behind = known.with_way(way)
     if behind is not None and any([of_positions for of_positions, difference in way]):
         behind = with_derived(search, behind)
     if behind is None:
-        return None
+        return None, 1
     bits = 0
     for form in forms:
         if not behind.is_true(form):
             many = len(behind.ways_of(form))
             if many == 0:
-                return None
+                return None, closing_nodes(behind, form)
             bits += bits_of(many)
-    return bits
+    return bits, 0
 
 
 def aparts_by(known, options):
@@ -106,11 +113,25 @@ def aparts_by(known, options):
     found = {}
     for option in options:
         for way in option.ways:
-            if len(way) == 1 and way[0][0]:
-                one, other, most = way[0][1]
-                for more in (most, most + 1):
-                    found[((one, 0), (other, more))] = True
-    return [apart_option(known, one, other) for one, other in found]
+            for pair in compared_in([difference for of_positions, difference in way if of_positions]):
+                found[pair] = True
+    made = [apart_option(known, one, other) for one, other in found]
+    return [option for option in made if len(option.ways) > 1]
+
+
+def compared_in(differences):
+    """The pairs of terms that are equal at the edges of what one difference, or two that say one thing, leave."""
+    if len(differences) == 0:
+        return []
+    one, other, most = differences[0]
+    if len(differences) == 1:
+        return [equal_pair(one, other, most), equal_pair(one, other, most + 1)]
+    return [equal_pair(one, other, most)] if differences[1:] == [(other, one, -most)] else []
+
+
+def equal_pair(one, other, most):
+    """The terms that are equal if one point exceeds another one by so much, the same two for both directions."""
+    return ((one, 0), (other, most)) if one > other else ((other, 0), (one, -most))
 
 
 def apart_option(known, one, other):

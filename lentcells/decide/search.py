@@ -109,6 +109,8 @@ class Search:
     def __init__(self, question, marks, spreading):
         self.spreading = spreading
         self.backs = 0
+        # The steps of all proofs on the way, also of those that are not whole.
+        self.used = {}
         self.base = question.frame
         self.seats = [term for term in question.members if term[0] not in question.fresh]
         self.told = []
@@ -223,9 +225,11 @@ class Search:
         proof = self._closing
         self._closing = None
         self.backs += 1
+        self.used[proof.step] = True
         while len(self.turns) > 0:
             turn = self.turns.pop()
             if turn.is_needed(proof):
+                self.used[turn.step] = True
                 turn.proofs.append(proof)
                 if turn.has_branch():
                     self._look_at(turn)

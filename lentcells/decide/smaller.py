@@ -1,26 +1,36 @@
 """Smaller proofs for questions for which one was found."""
 
-from lentcells.decide.ground import Ground, GroundSearch
+from lentcells.decide.ground import GroundSearch, ground_of
 from lentcells.decide.planning import Plan
 
 # A proof with more nodes is made anew, in all manners until one is as small.
 SMALL = 1000
-# Pairs of whether plans are looking, and whether they open cases of what is unlike last.
-MANNERS = ((False, False), (False, True), (True, False), (True, True))
+# A tree that is returned has at most so many nodes.
+MOST_NODES = 5000
 # How many steps the search for a proof takes at most, and how many if no proof would be as small as it has to be.
-MAX_STEPS = 5000
+MOST_STEPS = 3000
 FAR_STEPS = 100000
 
 
 def smaller_proof(question, marks, proof):
     """A proof that is at most as great as this one."""
-    ground = Ground(question, marks, proof)
-    for looking, last in MANNERS:
+    ground = ground_of(question, marks, proof)
+    for looking in (False, True):
+        proof = smaller_by(question, ground, looking, proof)
+    if proof.size > MOST_NODES:
+        return smaller_of(proof, ground_proof(question, ground, Plan(False, False), FAR_STEPS))
+    return proof
+
+
+def smaller_by(question, ground, looking, proof):
+    """A proof that is small, or the smallest one of this one and those that are found by plans."""
+    for last in (False, True):
         if proof.size <= SMALL:
             return proof
-        proof = smaller_of(proof, ground_proof(question, ground, Plan(looking, last), MAX_STEPS))
-    if proof.size > MAX_STEPS:
-        return smaller_of(proof, ground_proof(question, ground, Plan(False, False), FAR_STEPS))
+        plan = Plan(looking, last)
+        proof = smaller_of(proof, ground_proof(question, ground, plan, MOST_STEPS))
+        if not plan.hung_on_last:
+            return proof
     return proof
 
 

@@ -1,10 +1,12 @@
 """In how many ways claims can be true, by the tightest bounds of what is known.
 
 The form of a claim is ("atom", of_positions, differences); ("unlike", of_positions, low, high) for terms that are not
-equal, with the differences of both cases; ("any", forms) and ("all", forms); or ("more",) for what no bounds can tell.
+equal, with the differences of both cases; ("any", forms, cover) and ("all", forms); or ("more",) for what no bounds
+can tell. A cover is None, or tells when the parts leave nothing out.
 A literal is a pair (of_positions, difference), and a way is a list of literals that are true together.
 """
 
+from lentcells.decide.covers import cover_of, is_covered
 from lentcells.decide.search import is_of_positions
 from lentcells.logic.forms import ATOMS
 from lentcells.solve.points import said_by
@@ -23,7 +25,8 @@ def form_of(claim):
         return ("all", tuple([form_of(part) for part in parts])) if is_joined else ("more",)
     if claim[0] == "not" and claim[1][0] in ATOMS:
         return ("unlike", is_of_positions(claim), said_by(cases[0])[0], said_by(cases[1])[0])
-    return ("any", tuple([form_of(case) for case in cases]))
+    parts = tuple([form_of(case) for case in cases])
+    return ("any", parts, cover_of(parts))
 
 
 def both_ways(form):
@@ -94,14 +97,25 @@ class Known:
     def is_true(self, form):
         """Whether a claim with this form is true by what is known."""
         kind = form[0]
-        if kind in ("any", "all"):
-            return self._has_part(form[1], kind == "any") == (kind == "any")
+        if kind == "any":
+            return self._has_part(form[1], True) or self._is_covered(form[2])
+        if kind == "all":
+            return not self._has_part(form[1], False)
         if kind == "more":
             return False
         reach = self.reach(form[1])
         if kind == "atom":
             return all([reach.says(said) for said in form[2]])
         return reach.says(form[2]) or reach.says(form[3])
+
+    def _is_covered(self, cover):
+        if cover is None:
+            return False
+        of_positions, points, spans = cover
+        one, other = points
+        reach = self.reach(of_positions)
+        most = reach.gap(other, one)
+        return is_covered(None if most is None else -most, reach.gap(one, other), spans)
 
     def _has_part(self, parts, wanted):
         for part in parts:
