@@ -3,8 +3,10 @@
 import itertools
 import random
 import unittest
+from unittest import mock
 
 from lentcells.base.frames import Frame
+from lentcells.decide import deciding
 from lentcells.decide.branching import Growth, bits_of
 from lentcells.decide.covers import cover_of, is_covered
 from lentcells.decide.follows import Asker, is_paper, paper
@@ -13,6 +15,7 @@ from lentcells.errors import Refused
 from lentcells.solve.differences import fitting, tightest
 from lentcells.solve.questions import Question
 from lentcells.solve.trees import is_tree
+from samples import Maker
 
 MOST = 5000
 NEVER = ("or", ())
@@ -158,6 +161,33 @@ class SmallPapers(unittest.TestCase):
         self.assertLessEqual(len(tree), 1000)
 
 
+class PlansTest(unittest.TestCase):
+    """Searches by a plan, which begin at once here, tell the same as those that come first otherwise."""
+
+    def questions(self, many):
+        rand = random.Random(12)
+        for _ in range(many):
+            arrays = (("a", "n"), ("b", rand.choice(("n", "m"))))[:rand.randint(0, 2)]
+            frame = Frame(arrays, ("r", "s", "t")[:rand.randint(1, 3)], ("x", "y")[:rand.randint(0, 2)])
+            maker = Maker(frame, rand, 1)
+            ors = [("or", tuple(maker.atom() for _ in range(rand.randint(2, 3)))) for _ in range(rand.randint(0, 20))]
+            given = tuple(maker.claim(3) for _ in range(rand.randint(1, 6)))
+            yield Question(frame, (*given, ("and", tuple(ors))), maker.claim(3))
+
+    def test_random_questions(self):
+        seen = []
+        for question in self.questions(250):
+            if len(question.members) > 16:
+                continue
+            word = paper(question)[0]
+            with mock.patch.object(deciding, "FIRST_BACKS", 1), mock.patch.object(deciding, "PER_STEP", 1):
+                other = paper(question)
+            self.assertEqual(word, other[0])
+            self.assertTrue(is_paper(question, other))
+            seen.append(word)
+        self.assertTrue(min(seen.count("follows"), seen.count("broken")) > 30)
+
+
 class CoversTest(unittest.TestCase):
     """Ors that leave nothing out."""
 
@@ -190,6 +220,7 @@ class CoversTest(unittest.TestCase):
         one = ("atom", True, (("p", "q", 1),))
         for other in (("atom", True, (("p", "r", 1),)), ("atom", False, (("p", "q", 1),)), ("more",)):
             self.assertIsNone(cover_of((one, other)))
+            self.assertIsNone(cover_of((other, one)))
         self.assertIsNone(cover_of(()))
         self.assertIsNone(cover_of((one,)))
         same = ("atom", True, (("p", "p", 1), ("p", "p", -1)))

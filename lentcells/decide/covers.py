@@ -6,7 +6,9 @@ def cover_of(parts):
 
     The spans have the numbers that the parts leave for one point less the other one, the lowest ones first.
     """
-    if len(parts) < 2 or not all([part[0] == "atom" and part[1] == parts[0][1] for part in parts]):
+    if len(parts) < 2 or not all([part[0] == "atom" for part in parts]):
+        return None
+    if not all([part[1] == parts[0][1] for part in parts]):
         return None
     one, other, most = parts[0][2][0]
     pairs = [said[:2] for part in parts for said in part[2]]
