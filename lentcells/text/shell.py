@@ -76,7 +76,7 @@ class Shell:
     def answer(self, command):
         """The answer to a command."""
         try:
-            told = self._told(command)
+            told = self._carry_out(command)
         except WrongCommand:
             return "what"
         except ParseError as cut:
@@ -98,7 +98,7 @@ class Shell:
         self._answered.append(command)
         return told
 
-    def _told(self, command):
+    def _carry_out(self, command):
         if not isinstance(command, str):
             raise WrongCommand("this is no text")
         word, blank, rest = command.partition(" ")
@@ -114,9 +114,9 @@ class Shell:
             return news_text(self._desk.undo(many=many) if word == "undo" else self._desk.redo(many=many))
         if word not in NAMES_BEHIND:
             raise WrongCommand("there is no such command")
-        return self._told_of(word, names_in(rest, NAMES_BEHIND[word]))
+        return self._carry_out_named(word, names_in(rest, NAMES_BEHIND[word]))
 
-    def _told_of(self, word, names):
+    def _carry_out_named(self, word, names):
         desk = self._desk
         if word == "names":
             return list_text(desk.names)
